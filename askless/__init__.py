@@ -1,0 +1,1 @@
+"""Askless: walkers who ask nobody."""
