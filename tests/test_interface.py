@@ -1,0 +1,62 @@
+"""The interface: names, arguments, and the files in which they are defined."""
+import importlib
+import inspect
+import unittest
+
+FUNCTIONS = {
+    "kinds": ["is_integer(thing)", "is_name(thing)", "is_mark(thing)", "is_number(many, thing)"],
+    "statements": ["is_statement(thing)", "bodies(statement)", "names_in(statement)", "count(statement)"],
+    "places": ["all_places(program)", "statement_at(program, place)", "after(program, place)",
+               "entered(program, place, b)", "put_in(program, place, statement)",
+               "put_behind(program, place, b, statement)", "left_out(program, place)"],
+    "rows": ["thing_of(program, row, cell)", "rank_of(program, row, cell)", "is_over(program, row)"],
+    "steps": ["begin_row(program)", "followers(program, row)", "wrongs(program, row)"],
+    "tables": ["is_right(program, *, most=1000)", "is_closed(program, thing)"],
+    "runs": ["played(program, run)", "wrong_of(program, run)", "walk(program, run)", "is_run(program, thing)",
+             "is_wrong_run(program, thing)"],
+}
+CLASSES = {
+    "programs": {"Program": ["__init__(self, cells, roots, writers, *, fields=())", "__eq__(self, other)", "__len__(self)",
+                             "cells(self)", "roots(self)", "fields(self)", "quiets(self)", "locks(self)", "body(self, writer)",
+                             "with_body(self, writer, body)"]},
+    "tables": {"Table": ["__init__(self, program, *, most=1000)", "__eq__(self, other)", "__len__(self)",
+                         "__contains__(self, row)", "rows(self)", "rows_at(self, places)", "wrongs(self)", "way(self, row)",
+                         "cost(self, row)", "within(self, other)"]},
+    "machine": {"Machine": ["__init__(self, program)", "__eq__(self, other)", "__len__(self)", "step(self, thing)",
+                            "back(self)", "enter(self)", "places(self)", "asks(self)", "laters(self)", "inside(self)",
+                            "steps(self)", "run(self)", "things(self)", "roots(self)", "locks(self)", "held(self, walker)",
+                            "log(self, walker)", "reads(self, walker)", "copied(self)"]},
+    "walkers": {"Walker": ["__call__(self, root)", "follow(self, k, field)", "look(self, k)", "leave(self)", "is_in(self)",
+                           "names(self)"]},
+}
+PROPERTIES = [("programs", "Program", "is_straight"), ("tables", "Table", "is_safe"), ("tables", "Table", "fewest"),
+              ("walkers", "Walker", "number")]
+
+
+def module(name):
+    return importlib.import_module("askless." + name)
+
+
+class InterfaceTest(unittest.TestCase):
+    def test_functions(self):
+        for name, signatures in FUNCTIONS.items():
+            for signature in signatures:
+                function = getattr(module(name), signature.split("(")[0])
+                self.assertEqual(function.__module__, "askless." + name)
+                self.assertEqual(function.__name__ + str(inspect.signature(function)), signature)
+
+    def test_classes(self):
+        for name, classes in CLASSES.items():
+            for title, signatures in classes.items():
+                found = getattr(module(name), title)
+                self.assertEqual(found.__module__, "askless." + name)
+                for signature in signatures:
+                    method = vars(found)[signature.split("(")[0]]
+                    self.assertEqual(method.__name__ + str(inspect.signature(method)), signature)
+
+    def test_properties(self):
+        for name, title, attribute in PROPERTIES:
+            self.assertIsInstance(vars(getattr(module(name), title))[attribute], property)
+
+    def test_walk_is_a_generator(self):
+        self.assertTrue(inspect.isgeneratorfunction(module("runs").walk))
