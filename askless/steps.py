@@ -238,7 +238,10 @@ def done(program, row, step, deed):
 
 
 def outcome(program, row, step):
-    """The tuple (word, name, row) of a step: word and name if it is wrong, else the row behind it."""
+    """The tuple (word, name, row) of a step: word and name if it is wrong, and the row behind it.
+
+    What is a fault, or frees a cell that is held, is not done: the row is the one ahead then.
+    """
     deed = deed_of(program, row, step)
     fault = fault_of(program, row, step, deed)
     if fault != "":
@@ -252,7 +255,7 @@ def outcome(program, row, step):
     behind = done(program, ranked, step, deed)
     behind = replaced(behind, RANKS, spread(program, behind))
     cell = first_gone(program, behind)
-    return ("gone", cell, row) if cell != "" else ("", "", behind)
+    return ("gone", cell, behind) if cell != "" else ("", "", behind)
 
 
 def outcomes(program, row):

@@ -74,7 +74,7 @@ class Table:
             step, ahead = back
             steps.append(step)
             back = self.backs[ahead]
-        return list(reversed(steps))
+        return steps[::-1]
 
     def within(self, other):
         """Whether each row is one of another table."""

@@ -14,6 +14,14 @@ FUNCTIONS = {
     "tables": ["is_right(program, *, most=1000)", "is_closed(program, thing)"],
     "runs": ["played(program, run)", "wrong_of(program, run)", "walk(program, run)", "is_run(program, thing)",
              "is_wrong_run(program, thing)"],
+    "along": ["rows_along(program, run)", "lean(program, run)", "run_to(program, row, *, most=1000)",
+              "wrong_run(program, *, most=1000)"],
+    "scripts": ["is_script(thing)", "is_walk(graph, script, thing)", "moments(graph, script)", "held(graph, script)",
+                "outcome(graph, script)", "wrong_walk(graph, script)"],
+    "spans": ["in_gaps(script, gaps)", "spans(graph, script)", "idle_quiets(graph, script)", "fewest(graph, script)",
+              "is_fewest(graph, script, gaps, apart)"],
+    "quiets": ["least_quiets(program, places, *, most=1000)", "with_quiets(program, places)",
+               "quiet_paper(program, places, *, most=1000)", "is_quiet_paper(program, places, goods, bads)"],
 }
 CLASSES = {
     "programs": {"Program": ["__init__(self, cells, roots, writers, *, fields=())", "__eq__(self, other)", "__len__(self)",
@@ -28,6 +36,9 @@ CLASSES = {
                             "log(self, walker)", "reads(self, walker)", "copied(self)"]},
     "walkers": {"Walker": ["__call__(self, root)", "follow(self, k, field)", "look(self, k)", "leave(self)", "is_in(self)",
                            "names(self)"]},
+    "graphs": {"Graph": ["__init__(self, fields, roots, cells, *, labels=None)", "__eq__(self, other)", "__len__(self)",
+                         "__contains__(self, place)", "__getitem__(self, place)", "__setitem__(self, place, worth)", "fields(self)",
+                         "roots(self)", "cells(self)", "places(self)", "reached(self)", "label(self, cell)", "copied(self)"]},
 }
 PROPERTIES = [("programs", "Program", "is_straight"), ("tables", "Table", "is_safe"), ("tables", "Table", "fewest"),
               ("walkers", "Walker", "number")]

@@ -1,0 +1,89 @@
+"""[11] names: what is renamed one to one, such that the order stays, has results that are renamed likewise."""
+import random
+import unittest
+
+from askless.errors import AskError
+from askless.graphs import Graph
+from askless.programs import Program
+from askless.quiets import least_quiets, quiet_paper
+from askless.runs import is_wrong_run, wrong_of
+from askless.along import lean, rows_along, run_to, wrong_run
+from askless.places import all_places
+from askless.scripts import held, is_walk, moments, outcome, wrong_walk
+from askless.spans import fewest, idle_quiets, in_gaps, spans
+from askless.tables import Table
+from tests.drawn import hasty, listed, mild, some_programs, torn, visible
+from tests.scripted import many_cases, parted_script, drawn_graph
+
+NAMES = {"x": "xa", "y": "yb", "z": "zc", "r": "ra", "s": "sb", "f": "fa", "g": "gb", "p": "pa", "q": "qb", "k": "ka", "l": "lb",
+         "u": "ua", "v": "vb", "w": "wa", "a": "aa", "b": "ba", "h": "ha"}
+
+
+def renamed(thing):
+    if isinstance(thing, dict):
+        return {renamed(key): renamed(thing[key]) for key in thing}
+    if isinstance(thing, (list, tuple)):
+        return type(thing)(renamed(part) for part in thing)
+    if isinstance(thing, str) and thing[:1] == "~":
+        return "~" + NAMES[thing[1:]]
+    return NAMES.get(thing, thing) if isinstance(thing, str) else thing
+
+
+def renamed_program(program):
+    bodies = [program.body(writer) for writer in range(len(program))]
+    return Program(renamed(program.cells()), renamed(program.roots()), renamed(bodies), fields=renamed(program.fields()))
+
+
+def renamed_graph(graph):
+    cells = {x: (graph[("mark", x)], tuple(graph[("field", x, f)] for f in graph.fields())) for x in graph.cells()}
+    return Graph(renamed(graph.fields()), renamed({r: graph[("root", r)] for r in graph.roots()}), renamed(cells),
+                 labels=renamed({x: graph.label(x) for x in graph.cells()}))
+
+
+def told(call, *args, **more):
+    """What a call returns, or the error that it raises."""
+    try:
+        return call(*args, **more)
+    except AskError as error:
+        return [type(error).__name__] + [getattr(error, name) for name in sorted(vars(error))]
+
+
+class RenamedTest(unittest.TestCase):
+    def test_programs(self):
+        for number, program in enumerate(some_programs(10, 60, (mild, listed, hasty, torn, visible))):
+            other, rng = renamed_program(program), random.Random(number)
+            run = wrong_run(program)
+            self.assertEqual(run is None, wrong_run(other) is None)
+            if run is not None:
+                self.assertEqual(wrong_of(other, renamed(run)), renamed(wrong_of(program, run)))
+                self.assertTrue(is_wrong_run(other, renamed(lean(program, run))))
+            row = rng.choice(Table(program).rows())
+            there = run_to(program, row)
+            self.assertEqual(rows_along(other, renamed(there)), renamed(rows_along(program, there)))
+            self.assertEqual(len(run_to(other, renamed(row))), len(there))
+            places = rng.sample(all_places(program), min(3, len(all_places(program))))
+            self.assertEqual(told(least_quiets, other, places, most=200), told(least_quiets, program, places, most=200))
+            if isinstance(told(least_quiets, program, places, most=200), list) and number % 4 == 0:
+                one, two = told(quiet_paper, program, places, most=200), told(quiet_paper, other, places, most=200)
+                if isinstance(one, tuple):
+                    self.assertEqual(two[0], renamed(one[0]))
+                    self.assertEqual([part for part, found in two[1]], [part for part, found in one[1]])
+
+    def test_scripts(self):
+        cases = list(many_cases(120))
+        for seed in range(120):
+            graph = drawn_graph(random.Random(seed))
+            cases.append((graph, parted_script(random.Random(seed), graph, 8)))
+        for graph, script in cases:
+            other, line = renamed_graph(graph), renamed(script)
+            self.assertEqual(other.reached(), renamed(graph.reached()))
+            for call in [held, spans, fewest]:
+                self.assertEqual(told(call, other, line), renamed(told(call, graph, script)))
+            self.assertEqual(outcome(other, line), outcome(graph, script))
+            walk = wrong_walk(graph, script)
+            self.assertTrue(walk is None or is_walk(other, line, renamed(walk)))
+            graphs = told(moments, graph, script)
+            self.assertEqual(told(moments, other, line), [renamed_graph(part) if isinstance(part, Graph) else part for part in graphs])
+            self.assertEqual(in_gaps(line, [0]), renamed(in_gaps(script, [0])))
+            if outcome(graph, script) == ("right",):
+                self.assertEqual(idle_quiets(other, line), idle_quiets(graph, script))
