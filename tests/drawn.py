@@ -132,6 +132,18 @@ def listed(seed):
     return Program(cells, roots, [chain.body], fields=["f"])
 
 
+def linked(seed):
+    """A program of one writer that makes a list and then changes its links at random, perhaps in a loop."""
+    rng, cells, roots = random.Random(seed), ["x", "y", "z"], [["r"], ["r", "s"]][seed % 2]
+    order = rng.sample(cells, 3)
+    body = [("new", x) for x in cells] + [("point", x, "f", y) for x, y in zip(order, order[1:])] + [("root", "r", order[0])]
+    more = []
+    for turn in range(rng.randint(1, 4)):
+        target = rng.choice(cells + [""])
+        more.append(rng.choice([("point", rng.choice(cells), "f", target)] * 2 + [("root", rng.choice(roots), target)]))
+    return Program(cells, roots, [body + ([("loop", more)] if rng.random() < 0.2 else more)], fields=["f"])
+
+
 def hasty(seed):
     """Such a program without one or two of the statements by which it takes care."""
     rng, program = random.Random(seed), listed(seed)

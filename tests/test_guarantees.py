@@ -1,14 +1,17 @@
-"""[5] [6] [7] [8] [11] on small programs."""
+"""[5] [6] [7] [8] [10] [11] on small programs."""
 import random
 import unittest
 
+from askless.along import rows_along, wrong_run
 from askless.errors import Fault, Freed, Gone, NoStep, TooMany
+from askless.logs import Logs
 from askless.machine import Machine
-from askless.places import all_places, put_behind, put_in, statement_at
+from askless.places import all_places, left_out, put_behind, put_in, statement_at
 from askless.programs import Program
 from askless.statements import bodies
 from askless.steps import begin_row, followers, wrongs
 from askless.tables import Table, is_closed, is_right
+from tests.drawn import hasty, linked, listed, mild, right_programs, some_programs, torn, visible
 from tests.model import mild_parts, random_parts
 from tests.test_machine import attempt, gone_as
 
@@ -160,6 +163,43 @@ class GuaranteesTest(unittest.TestCase):
                 statement = statement_at(program, place)
                 for b in range(len(bodies(statement)) if statement else 0):
                     self.assertIs(is_right(put_behind(program, place, b, ("quiet",))), True)
+
+    def test_quiets_bring_no_new_logs(self):
+        fewer = 0
+        for program in right_programs(12, 40, (visible, listed, mild, linked)):
+            logs = Logs(program)
+            for place in all_places(program):
+                other = Logs(put_in(program, place, ("quiet",)))
+                self.assertIs(other.within(logs), True)
+                self.assertIs(other.missing(logs), None)
+                fewer += not logs.within(other)
+                statement = statement_at(program, place)
+                for b in range(len(bodies(statement)) if statement else 0):
+                    self.assertIs(Logs(put_behind(program, place, b, ("quiet",))).within(logs), True)
+        self.assertGreater(fewer, 0)
+
+    def test_quiets_in_the_place_of_laters_bring_no_new_logs(self):
+        many = 0
+        for program in right_programs(60, 100, (visible, mild)):
+            for place in all_places(program):
+                statement = statement_at(program, place)
+                if statement is not None and statement[0] == "later":
+                    other = put_in(left_out(program, place), place, ("free", statement[1]))
+                    other = put_in(other, place, ("quiet",))
+                    self.assertIs(Logs(other).within(Logs(program)), True)
+                    many += 1
+        self.assertGreater(many, 10)
+
+    def test_a_step_of_a_run_is_wrong_for_some_walkers_if_it_is_so_in_the_table(self):
+        """What a wrong run shows for one walker is wrong along its rows, too, and no step ahead of it is."""
+        for program in some_programs(25, 100, (listed, hasty, torn, mild)):
+            run = wrong_run(program)
+            if run is None:
+                continue
+            deeds = [step for step in run if step[0] in ("writer", "begin", "end")]
+            rows = rows_along(program, deeds[:-1])
+            self.assertIn(deeds[-1], [wrong[0] for wrong in wrongs(program, rows[-1])])
+            self.assertEqual(len(rows), len(deeds))
 
     def test_cases_are_right_and_wrong(self):
         found = [is_right(Program(*case[:3], fields=case[3])) for case in CASES]

@@ -20,6 +20,15 @@ FUNCTIONS = {
                 "outcome(graph, script)", "wrong_walk(graph, script)"],
     "spans": ["in_gaps(script, gaps)", "spans(graph, script)", "idle_quiets(graph, script)", "fewest(graph, script)",
               "is_fewest(graph, script, gaps, apart)"],
+    "reads": ["is_read(thing)", "is_log(thing)", "is_less(one, other)", "come(log)"],
+    "logs": ["run_of(program, log, *, most=1000)", "is_run_of(program, log, thing)"],
+    "alike": ["are_alike(one, other, *, most=1000)", "parting_log(one, other, *, most=1000)", "exchanged(program, place)",
+              "exchanges(program, *, most=1000)"],
+    "promises": ["broken(program, promise, *, most=1000)", "never(patterns)"],
+    "moments": ["is_entry(log)", "fitting(program, run, walker)", "never_stood(program, *, most=1000)",
+                "run_never_stood(program, *, most=1000)"],
+    "chains": ["missed(program, chain, *, most=1000)", "stranger(program, chain, *, most=1000)",
+               "twice(program, chain, *, most=1000)", "longest(program, chain, *, most=1000)"],
     "quiets": ["least_quiets(program, places, *, most=1000)", "with_quiets(program, places)",
                "quiet_paper(program, places, *, most=1000)", "is_quiet_paper(program, places, goods, bads)"],
 }
@@ -39,6 +48,10 @@ CLASSES = {
     "graphs": {"Graph": ["__init__(self, fields, roots, cells, *, labels=None)", "__eq__(self, other)", "__len__(self)",
                          "__contains__(self, place)", "__getitem__(self, place)", "__setitem__(self, place, worth)", "fields(self)",
                          "roots(self)", "cells(self)", "places(self)", "reached(self)", "label(self, cell)", "copied(self)"]},
+    "logs": {"Logs": ["__init__(self, program, *, most=1000)", "__eq__(self, other)", "__len__(self)", "__contains__(self, thing)",
+                      "coming(self, log)", "first(self, many)", "count(self, many)", "missing(self, other)", "within(self, other)"]},
+    "promises": {"Promise": ["__init__(self, rows)", "__eq__(self, other)", "rows(self)", "state_after(self, log)",
+                             "broken_at(self, log)"]},
 }
 PROPERTIES = [("programs", "Program", "is_straight"), ("tables", "Table", "is_safe"), ("tables", "Table", "fewest"),
               ("walkers", "Walker", "number")]

@@ -2,8 +2,12 @@
 import random
 import unittest
 
+from askless.alike import exchanges, parting_log
+from askless.chains import longest, missed, stranger, twice
 from askless.errors import AskError
 from askless.graphs import Graph
+from askless.logs import Logs, is_run_of, run_of
+from askless.moments import fitting, never_stood, run_never_stood
 from askless.programs import Program
 from askless.quiets import least_quiets, quiet_paper
 from askless.runs import is_wrong_run, wrong_of
@@ -12,7 +16,7 @@ from askless.places import all_places
 from askless.scripts import held, is_walk, moments, outcome, wrong_walk
 from askless.spans import fewest, idle_quiets, in_gaps, spans
 from askless.tables import Table
-from tests.drawn import hasty, listed, mild, some_programs, torn, visible
+from tests.drawn import hasty, linked, listed, mild, right_programs, some_programs, torn, visible
 from tests.scripted import many_cases, parted_script, drawn_graph
 
 NAMES = {"x": "xa", "y": "yb", "z": "zc", "r": "ra", "s": "sb", "f": "fa", "g": "gb", "p": "pa", "q": "qb", "k": "ka", "l": "lb",
@@ -68,6 +72,27 @@ class RenamedTest(unittest.TestCase):
                 if isinstance(one, tuple):
                     self.assertEqual(two[0], renamed(one[0]))
                     self.assertEqual([part for part, found in two[1]], [part for part, found in one[1]])
+
+    def test_logs_moments_and_chains(self):
+        programs = right_programs(15, 60, (visible, listed, mild, linked))
+        for number, program in enumerate(programs):
+            other = renamed_program(program)
+            logs, others = Logs(program), Logs(other)
+            self.assertEqual(len(others), len(logs))
+            self.assertEqual(others.first(60), renamed(logs.first(60)))
+            log = logs.first(60)[-1]
+            self.assertIs(is_run_of(other, renamed(log), renamed(run_of(program, log))), True)
+            self.assertEqual(len(run_of(other, renamed(log))), len(run_of(program, log)))
+            self.assertEqual(never_stood(other), renamed(never_stood(program)))
+            run = run_never_stood(program)
+            self.assertTrue(run is None or fitting(other, renamed(run), 0) == [])
+            for root in program.roots():
+                for field in program.fields():
+                    for call in [missed, stranger, twice, longest]:
+                        self.assertEqual(call(other, renamed((root, field))), renamed(call(program, (root, field))))
+            if number % 8 == 0:
+                self.assertEqual(exchanges(other), exchanges(program))
+                self.assertEqual(parting_log(other, renamed_program(programs[number - 1])), renamed(parting_log(program, programs[number - 1])))
 
     def test_scripts(self):
         cases = list(many_cases(120))

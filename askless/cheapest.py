@@ -1,0 +1,39 @@
+"""Cheapest ways: what is reached with the fewest steps of writers and of the house."""
+
+
+def cheapest(starts, moves, goal):
+    """The tuple (start, steps) of a cheapest way to a node that ends with goal, or None.
+
+    Starts are tuples (cost, node); moves gives the list of the tuples (cost, step, node) from a node, each cost 0 or 1.
+    """
+    lines = {}
+    for cost, node in starts:
+        lines.setdefault(cost, []).append((node, None))
+    backs = {}
+    cost = 0
+    while len(lines) > 0:
+        line = lines.pop(cost, [])
+        cost += 1
+        while len(line) > 0:
+            node, back = line.pop()
+            if node in backs:
+                continue
+            backs[node] = back
+            if node[-1] == goal:
+                return traced(backs, node)
+            for price, step, to in moves(node):
+                if price == 0:
+                    line.append((to, (step, node)))
+                else:
+                    lines.setdefault(cost, []).append((to, (step, node)))
+    return None
+
+
+def traced(backs, end):
+    """The start of a way and the list of its steps, from how each node was reached."""
+    steps = []
+    node = end
+    while backs[node] is not None:
+        step, node = backs[node]
+        steps.append(step)
+    return (node, steps[::-1])
