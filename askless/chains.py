@@ -1,8 +1,8 @@
 """Chains: what walks along one field miss, what strangers they meet, and whether they meet a cell twice."""
 from askless.errors import NoChain
 from askless.grounds import Ground, closed, reaches
-from askless.reads import is_less
-from askless.sights import told_by
+from askless.hunts import least_shown
+from askless.reads import NONE, is_less
 
 
 def ground_of(program, chain, most):
@@ -33,32 +33,9 @@ def stands_with(ground, chain, cell):
     return found
 
 
-def place_next(chain, log, names):
-    """The next read along a chain behind a log, without what it tells, and its place."""
-    root, field = chain
-    if len(log) == 0:
-        return (("root", root), ("root", root))
-    k = log[-1][-1]
-    return (("field", k, field), ("field", names[k], field))
-
-
-def walks_behind(ground, chain, log, parts):
-    """The dict from the next reads to dicts from the names of cells that have come and what was told to stands."""
-    found = {}
-    for names, stands in parts.items():
-        head, place = place_next(chain, log, names)
-        for worth, mask in ground.masks.get(place, {}).items():
-            if stands & mask > 0:
-                read, behind = told_by(head, names, worth)
-                parts_behind = found.setdefault(read, {})
-                parts_behind[(names, worth, behind)] = stands & mask
-    return found
-
-
-def ways_within(ways, allowed):
-    """The ways from stands of a set to such stands, none from others."""
-    inside = [(allowed >> at) & 1 for at in range(len(ways))]
-    return [[to for to in there if inside[at] and inside[to]] for at, there in enumerate(ways)]
+def stands_without(ground, chain, cell):
+    """The set of the stands at which a cell is no member."""
+    return ground.everywhere() ^ stands_with(ground, chain, cell)
 
 
 def least_walk(ground, chain, allowed, shown):
@@ -67,35 +44,19 @@ def least_walk(ground, chain, allowed, shown):
     The function shown tells from the names of the cells that came ahead and what a read told which cell
     this shows, the empty string if none.
     """
-    reach = reaches(ways_within(ground.ways(), allowed))
-    line = [([], {(): allowed})]
-    seen = {}
-    while len(line) > 0:
-        further = []
-        for log, parts in line:
-            found = walks_behind(ground, chain, log, parts)
-            for read in sorted(found):
-                cells = [shown(names, worth) for names, worth, behind in found[read]]
-                if any(cells):
-                    return (log + [read], min([cell for cell in cells if cell != ""]))
-                fresh = unseen(seen, reach, read, found[read]) if read[-1] >= 0 else {}
-                if len(fresh) > 0:
-                    further.append((log + [read], fresh))
-        line = further
-    return None
+    root, field = chain
 
+    def options(names, last):
+        """What is read next, if the cell with the number last has come last, with -1 none yet."""
+        if last < 0:
+            return [(("root", root), ("root", root))]
+        return [(("field", last, field), ("field", names[last], field))]
 
-def unseen(seen, reach, read, parts):
-    """The dict from names to the stands behind a read that no lesser log led to, which are then noted."""
-    fresh = {}
-    for (names, worth, behind), stands in parts.items():
-        key = (behind, read[-1])
-        old = seen.get(key, 0)
-        more = old | closed(reach, stands)
-        if more != old:
-            seen[key] = more
-            fresh[behind] = fresh.get(behind, 0) | (more ^ old)
-    return fresh
+    def result(names, last, read, worth):
+        """The cell that is shown, and the number of the one that has come last; at the end None."""
+        return (shown(names, worth), None if worth == "" else read[-1])
+    found = least_shown(ground, allowed, NONE, options, result)
+    return None if found is None else (found[0], min(found[1]))
 
 
 def least_of(found):
@@ -128,11 +89,10 @@ def missing_of(cell):
 def stranger(program, chain, *, most=1000):
     """The tuple (log, cell) of the least log of a walk that has a stranger, or None."""
     ground = ground_of(program, chain, most)
-    everywhere = (1 << len(ground.onward)) - 1
     found = []
     for cell in program.cells():
-        # A cell that was a member while the walker was in is not freed until it leaves.
-        found.append(least_walk(ground, chain, everywhere ^ stands_with(ground, chain, cell), coming_of(cell)))
+        # A cell that was a member while the walker was in is not freed until it leaves: it never gets a stranger.
+        found.append(least_walk(ground, chain, stands_without(ground, chain, cell), coming_of(cell)))
     return least_of(found)
 
 
@@ -151,7 +111,7 @@ def twice(program, chain, *, most=1000):
     def shown(names, worth):
         """The cell that came, if it had come."""
         return worth if worth in names else ""
-    return least_walk(ground, chain, (1 << len(ground.onward)) - 1, shown)
+    return least_walk(ground, chain, ground.everywhere(), shown)
 
 
 def longest(program, chain, *, most=1000):
@@ -159,7 +119,7 @@ def longest(program, chain, *, most=1000):
     ground = ground_of(program, chain, most)
     root, field = chain
     reach = reaches(ground.ways())
-    parts = led(ground, reach, ("root", root), (1 << len(reach)) - 1)
+    parts = led(ground, reach, ("root", root), ground.everywhere())
     many = 1
     seen = {}
     while len(parts) > 0:

@@ -2,22 +2,26 @@
 
 
 def cheapest(starts, moves, goal):
-    """The tuple (start, steps) of a cheapest way to a node that ends with goal, or None.
+    """The tuple (start, steps) of a cheapest way to a node with goal as its last part, or None.
 
-    Starts are tuples (cost, node); moves gives the list of the tuples (cost, step, node) from a node, each cost 0 or 1.
+    Starts are tuples (cost, node); moves gives the list of the tuples (cost, step, node) from a node, each cost 0 or 1,
+    those of cost 0 last. The last part of a node tells how many reads of a log are done: what is otherwise the same
+    can come to no less with more of them.
     """
     lines = {}
     for cost, node in starts:
         lines.setdefault(cost, []).append((node, None))
     backs = {}
+    most_done = {}
     cost = 0
     while len(lines) > 0:
         line = lines.pop(cost, [])
         cost += 1
         while len(line) > 0:
             node, back = line.pop()
-            if node in backs:
+            if most_done.get(node[:-1], -1) >= node[-1]:
                 continue
+            most_done[node[:-1]] = node[-1]
             backs[node] = back
             if node[-1] == goal:
                 return traced(backs, node)

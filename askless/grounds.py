@@ -102,6 +102,10 @@ class Ground:
         many = len(self.bases[core][ASKS]) + 1
         return ((1 << many) - 1) << self.starts[core]
 
+    def everywhere(self):
+        """The set of all stands."""
+        return (1 << len(self.onward)) - 1
+
     def fresh(self, core):
         """The stand with a core of a walker that begins there."""
         return self.starts[core] + len(self.bases[core][ASKS])

@@ -1,7 +1,6 @@
 """Logs: what walkers can read at all, in all runs of a right program; and runs that show a log."""
 from askless.cheapest import cheapest
 from askless.grounds import Ground
-from askless.kinds import is_list
 from askless.reads import is_log, place_read, step_of
 from askless.rows import GONE
 from askless.runs import is_run, played
@@ -92,7 +91,7 @@ def run_of(program, log, *, most=1000):
 
 def is_run_of(program, log, thing):
     """Whether a value is a run with one walker that enters once, stays and has a log at its end."""
-    if not is_list(thing) or not is_run(program, thing):
+    if not is_run(program, thing):
         return False
     words = [step[0] for step in thing]
     if words.count("enter") != 1 or "leave" in words:

@@ -1,9 +1,10 @@
 """Promises: what each log of a program is to keep to."""
 from askless.errors import Wrong
 from askless.grounds import Ground
+from askless.hunts import least_shown
 from askless.kinds import is_list, is_number
 from askless.reads import has_read_form
-from askless.sights import least_log, merged, turns_of
+from askless.sights import heads
 
 MANY_STATES = 100
 
@@ -17,8 +18,6 @@ def is_promise_row(thing):
 
 def is_like(pattern, read):
     """Whether a pattern fits a read."""
-    if len(pattern) != len(read):
-        return False
     return all([wish is None or wish == part for wish, part in zip(pattern, read)])
 
 
@@ -65,10 +64,18 @@ class Promise:
 
 def broken(program, promise, *, most=1000):
     """The least log of a walker that breaks a promise, or None."""
-    def state_behind(state, read):
-        """The state behind a read, or None."""
-        return promise.state_behind(state, read)
-    return least_log(turns_of(Ground(program, most)), 0, state_behind)
+    ground = Ground(program, most)
+
+    def options(names, state):
+        """All that a walker can read to whom these cells have come."""
+        return heads(program, names)
+
+    def result(names, state, read, worth):
+        """Whether the read breaks the promise, and the state behind it."""
+        then = promise.state_behind(state, read)
+        return ("broken" if then is None else "", then)
+    found = least_shown(ground, ground.everywhere(), 0, options, result)
+    return None if found is None else found[0]
 
 
 def never(patterns):

@@ -46,7 +46,7 @@ def closed_sight(reach, parts):
 def turns_of(ground):
     """The list of the dicts from the reads that can come next to the number of the dict behind them."""
     reach = reaches(ground.ways())
-    begin = (((), (1 << len(reach)) - 1),)
+    begin = (((), ground.everywhere()),)
     numbers = {begin: 0}
     line = [begin]
     turns = []

@@ -37,9 +37,9 @@ def visible_body(rng, own, roots, fields, many, depth=1):
 
 
 def visible(seed, most=9):
-    """A program of one or two writers, each with cells of its own, that is right if it frees nothing too soon."""
+    """A program of one to three writers, each with cells of its own, that is right if it frees nothing too soon."""
     rng = random.Random(seed)
-    writers = rng.choice([1, 1, 2])
+    writers = rng.choice([1, 1, 2, 3])
     cells = ["u", "v", "w"][:max(writers, rng.randint(1, 3))]
     roots = ["r", "s"][:rng.randint(1, 2)]
     fields = [[], ["f"], ["f", "g"]][rng.randint(0, 2)]

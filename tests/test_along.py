@@ -119,6 +119,7 @@ class RunToTest(unittest.TestCase):
                 self.assertEqual(behind, sorted(behind, reverse=True))
                 found.update((cell, sum(behind)) for cell in walker["cells"])
         wanted = {(cell, rank) for cell, rank in zip(cells, row[5]) if rank >= 0}
+        self.assertEqual(len([walker for walker in visited.walkers if walker["in"]]), len(wanted))
         self.assertEqual(wanted - found, set())
 
     def test_rows_of_small_programs(self):
@@ -242,6 +243,11 @@ class LeanTest(unittest.TestCase):
         gone = [W] * 7 + [("enter",), ("enter",), ("root", 1, "r"), ("root", 1, "r"), ("mark", 1, 0), ("field", 1, 0, "f"),
                           ("field", 1, 1, "f")]
         self.assertEqual(lean(GONE, gone), [W] * 7 + [("enter",), ("root", 0, "r"), ("field", 0, 0, "f"), ("field", 0, 1, "f")])
+        marked = Program(["x", "y"], ["r"], [[("new", "x"), ("new", "y"), ("mark", "x", 1), ("point", "x", "f", "y"), ("root", "r", "x"),
+                                              ("free", "y")]], fields=["f"])
+        reads_first = [W] * 5 + [("enter",), ("root", 0, "r"), ("mark", 0, 0), ("root", 0, "r"), ("field", 0, 0, "f"), ("field", 0, 1, "f"),
+                                 ("mark", 0, 1), ("field", 0, 0, "f"), W]
+        self.assertEqual(lean(marked, reads_first), [W] * 5 + [("enter",), ("root", 0, "r"), ("field", 0, 0, "f"), W])
         at_root = [W] * 2 + [("enter",), W, ("leave", 0), W, ("enter",), ("root", 1, "r")]
         kept = Program(["x"], ["r"], [[("new", "x"), ("root", "r", "x"), ("mark", "x", 1), ("free", "x")]])
         self.assertEqual(lean(kept, at_root), [W] * 4 + [("enter",), ("root", 0, "r")])

@@ -24,7 +24,7 @@ class MakeTest(unittest.TestCase):
         good = [["f"], {"r": "x"}, {"x": (0, ("",))}, {"x": "a"}]
         bad = [
             odd_values() + [["f", "f"], ["f", "g", "h"], ["F"], [True], "f", {"f": 1}, [["f"]]],
-            odd_values() + [{"r": None}, {"r": 0}, {"R": ""}, {True: ""}, {"r": "", "s": "", "t": ""}, {("r",): ""}, [("r", "")],
+            odd_values() + [{"r": None}, {"r": 0}, {"R": ""}, {"r": "", "S": ""}, {True: ""}, {"r": "", "s": "", "t": ""}, {("r",): ""}, [("r", "")],
                             {"r": ["x"]}],
             odd_values() + [{"x": [0, ("",)]}, {"x": (0, [""])}, {"x": (0, ())}, {"x": (0, ("", ""))}, {"x": (4, ("",))},
                             {"x": (True, ("",))}, {"x": (0, (None,))}, {"x": (0, ("",), 1)}, {"X": (0, ("",))}, {"x": (BIG, ("",))},
@@ -96,6 +96,8 @@ class QueryTest(unittest.TestCase):
         self.assertEqual(graph.places(), [("field", x, f) for x in "wxyz" for f in "fg"] + [("mark", x) for x in "wxyz"]
                          + [("root", "r"), ("root", "s")])
         self.assertEqual([graph.label(x) for x in "wxyz"], ["w", "label", "y", "y"])
+        turned = Graph(["f"], {"r": "z", "q": "w"}, {"z": (0, ("y",)), "y": (0, ("x",)), "x": (0, ("",)), "w": (0, ("",))})
+        self.assertEqual(turned.reached(), ["w", "x", "y", "z"])
         for ask in [graph.fields, graph.roots, graph.cells, graph.places, graph.reached]:
             told = ask()
             told.clear()

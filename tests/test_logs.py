@@ -41,7 +41,24 @@ def drawn_log(program, rng, turns):
     return (machine.log(0), machine.run()) if machine.inside() else ([], machine.run() + [("enter",)])
 
 
-class LogsTest(unittest.TestCase):
+class LogsCase(unittest.TestCase):
+    def check_all(self, program, longest):
+        """Logs, what comes next and the fewest steps, by a visit of all runs."""
+        found, logs = visit(parts_of(program), Keeper(), longest), Logs(program)
+        line = by_length(found)
+        self.assertEqual([logs.count(many) for many in range(longest + 1)],
+                         [len([log for log in line if len(log) == many]) for many in range(longest + 1)])
+        self.assertEqual(logs.first(min(len(line), 1000)), line[:1000])
+        for log in line:
+            self.assertIs(log in logs, True)
+            if len(log) < longest:
+                self.assertEqual(logs.coming(log), [other[-1] for other in line if other and other[:-1] == log])
+            run = run_of(program, log)
+            self.assertIs(is_run_of(program, log, run), True)
+            self.assertEqual(len(deeds(run)), min(state[4] for state in found[tuple(log)]))
+
+
+class LogsTest(LogsCase):
     def test_examples(self):
         logs = Logs(SWAP)
         self.assertEqual([logs.count(1), logs.count(2), logs.coming([FIRST])],
@@ -167,21 +184,6 @@ class LogsTest(unittest.TestCase):
             call(log)
             self.assertEqual(log, [FIRST, ("mark", 0, 1)])
 
-    def check_all(self, program, longest):
-        """Logs, what comes next and the fewest steps, by a visit of all runs."""
-        found, logs = visit(parts_of(program), Keeper(), longest), Logs(program)
-        line = by_length(found)
-        self.assertEqual([logs.count(many) for many in range(longest + 1)],
-                         [len([log for log in line if len(log) == many]) for many in range(longest + 1)])
-        self.assertEqual(logs.first(min(len(line), 1000)), line[:1000])
-        for log in line:
-            self.assertIs(log in logs, True)
-            if len(log) < longest:
-                self.assertEqual(logs.coming(log), [other[-1] for other in line if other and other[:-1] == log])
-            run = run_of(program, log)
-            self.assertIs(is_run_of(program, log, run), True)
-            self.assertEqual(len(deeds(run)), min(state[4] for state in found[tuple(log)]))
-
     def test_all_logs_of_small_programs(self):
         for program in [SWAP, EARLY, IDLE, TURN]:
             self.check_all(program, 4)
@@ -221,7 +223,7 @@ class LogsTest(unittest.TestCase):
             self.assertIs(log in logs, True)
 
 
-class RunOfTest(unittest.TestCase):
+class RunOfTest(LogsCase):
     def test_runs(self):
         self.assertEqual(run_of(SWAP, []), [("enter",)])
         self.assertEqual(run_of(SWAP, [NONE]), [("enter",), ("root", 0, "r")])
@@ -241,6 +243,16 @@ class RunOfTest(unittest.TestCase):
         self.assertIs(is_run_of(asks, [NONE, FIRST, ("mark", 0, 1)], run), True)
         self.assertEqual(len(deeds(run)), 5)
         self.assertGreater(run.index(("enter",)), 1)
+
+    def test_the_fewest_steps(self):
+        # Behind the loop z can be held still or no longer; a walker that is to begin there has no need to wait for the latter.
+        program = Program(["x", "y", "z"], ["r", "s"], [[("new", "z"), ("root", "r", "z"), ("root", "r", ""), ("loop", [("quiet",)]), ("ask", "q"),
+                                                         ("new", "x"), ("root", "r", "x"), ("root", "r", ""), ("await", "q"), ("new", "y"),
+                                                         ("root", "s", "y")]])
+        for log, many in [([FIRST, ("root", "s", 1)], 11), ([NONE, ("root", "s", 0)], 11), ([FIRST], 2), ([FIRST, NONE], 3)]:
+            self.assertEqual(len(deeds(run_of(program, log))), many)
+        self.assertIs(run_of(program, [FIRST, ("root", "r", 1), ("root", "s", 2)]), None)
+        self.check_all(program, 2)
 
     def test_is_run_of(self):
         log = [FIRST, ("mark", 0, 1)]

@@ -9,7 +9,7 @@ from askless.moments import fitting, is_entry, never_stood, run_never_stood
 from askless.programs import Program
 from askless.tables import Table
 from tests.alone import Moments, fits, visit
-from tests.drawn import listed, mild, parts_of, right_programs, visible
+from tests.drawn import linked, listed, mild, parts_of, right_programs, visible
 from tests.test_logs import EARLY, FIRST, HASTY, IDLE, NONE, SWAP, TURN
 from tests.values import odd_values
 
@@ -198,11 +198,23 @@ class NeverStoodTest(unittest.TestCase):
     def test_small_programs(self):
         found = [self.check(program, 9) for program in [AB, SWAP, EARLY, IDLE, TURN, LINK]]
         self.assertEqual(found, [False, True, True, True, True, False])
-        found = [self.check(program, 3) for program in right_programs(70, 30, (visible, listed, mild))]
+        found = [self.check(program, 3) for program in right_programs(60, 30, (visible, linked, listed, mild))]
         self.assertTrue(any(found) and not all(found))
 
+    def test_programs_that_need_each_way_to_be_kept(self):
+        # Programs that were found by drawing many: of two ways to one moment neither can be left out.
+        for program, depth in [(visible(53), 3), (visible(230), 3), (visible(241), 2), (visible(284), 2), (mild(1333), 2)]:
+            self.assertIs(self.check(program, depth), False)
+
+    def test_the_fewest_steps(self):
+        aside = [[("quiet",)] * 2, [("ask", "q")] * 2]
+        for writers in [aside + [AB.body(0)], [AB.body(0)] + aside]:
+            program = Program(["x", "y"], ["a", "b"], writers)
+            self.assertEqual(never_stood(program), never_stood(AB))
+            self.assertEqual(len(deeds(run_never_stood(program))), 5)
+
     def test_drawn_runs_show_nothing_less(self):
-        for number, program in enumerate(right_programs(30, 150, (visible, listed, mild))):
+        for number, program in enumerate(right_programs(25, 300, (visible, linked, listed, mild))):
             least, rng = never_stood(program), random.Random(number)
             if least is not None:
                 self.check_run(program, least, run_never_stood(program))

@@ -90,7 +90,15 @@ class LeastQuietsTest(unittest.TestCase):
         late = Program(["x", "y"], ["r", "s"], [[("new", "x"), ("new", "y"), ("root", "r", "x"), ("root", "s", "y"), ("root", "r", ""),
                                                  ("root", "s", ""), ("free", "x"), ("free", "y")]])
         self.assertEqual(least_quiets(late, [at(5), at(6), at(7)]), [[at(5), at(7)], [at(6)]])
+        goods, bads = quiet_paper(late, [at(5), at(6), at(7)])
+        self.assertEqual([part for part, rows in goods], [[at(5), at(7)], [at(6)]])
+        self.assertEqual([part for part, run in bads], [[at(5)], [at(7)]])
         self.assertEqual(least_quiets(TWO, [at(5), at(7), at(6)]), [[at(5), at(7)]])
+        # A greatest set of few places can be greater than one of many.
+        mixed = Program(["x", "y"], ["r", "s"], [[("new", "x"), ("new", "y"), ("root", "r", "x"), ("root", "s", "y"), ("root", "r", ""),
+                                                  ("free", "x")], [("ask", "q"), ("await", "q")]])
+        bads = quiet_paper(mixed, [at(4), at(5), (1, (0,)), (1, (1,))])[1]
+        self.assertEqual([part for part, run in bads], [[at(4), (1, (0,)), (1, (1,))]])
         found = least_quiets(late, [at(5), at(6), at(7)])
         found[0].clear()
         found.clear()

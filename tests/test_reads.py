@@ -30,7 +30,8 @@ class ReadTest(unittest.TestCase):
             self.assertIs(is_log(log), True)
         others = [[("root", "r", 1)], [("mark", 0, 0)], [("field", 0, "f", -1)], [("root", "r", 0), ("root", "r", 2)],
                   [("root", "r", 0), ("mark", 1, 0)], [("root", "r", 0), ("field", 1, "f", 1)], [("root", "r", 0), ("field", 0, "f", 2)],
-                  [("root", "r", -1), ("mark", 0, 0)], (("root", "r", 0),), ("root", "r", 0), [["root", "r", 0]], [("root", "r", False)],
+                  [("root", "r", -1), ("mark", 0, 0)], [("root", "r", 0), ("mark", 0, 1), ("root", "r", 2)],
+                  [("root", "r", 0), ("mark", 0, 1), ("mark", 1, 0)], (("root", "r", 0),), ("root", "r", 0), [["root", "r", 0]], [("root", "r", False)],
                   [("root", "r", 0), ("mark", False, 0)], [("root", "r", 0), ("root", "r", True)], [("root", "r", BIG)],
                   [("root", "r", -1)] * 300000 + [("root", "r", 1)]]
         for thing in others:

@@ -52,6 +52,9 @@ class ScriptTest(unittest.TestCase):
         self.assertEqual(moments(graph, script)[4], made("x", "z", y=old, z=new))
         self.assertEqual(len({id(part) for part in found}), 8)
         self.assertIsNot(found[0], graph)
+        grown = moments(LIST, [("new", "z"), ("new", "a"), ("copy", "b", "y")])[3]
+        self.assertEqual([grown.cells(), len(grown), grown.reached()], [["a", "b", "x", "y", "z"], 5, ["x", "y"]])
+        self.assertEqual(grown.places(), sorted(grown.places()))
         # What led to a freed cell is gone.
         self.assertEqual(moments(LIST, [("free", "y")])[1][("field", "x", "f")], "?")
         self.assertEqual(moments(LIST, [("free", "x")])[1][("root", "r")], "?")

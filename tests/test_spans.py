@@ -73,6 +73,22 @@ class SpansTest(unittest.TestCase):
             self.assertIs(is_fewest(graph, apart, [3], [harm]), True)
         self.assertIs(is_fewest(graph, apart, [3], spans(graph, apart)), False)
 
+    def test_spans_with_a_common_gap_are_not_apart(self):
+        graph = Graph([], {"r": "v", "s": ""}, {"v": (0, ()), "w": (0, ()), "x": (0, ())})
+        for script, harms in [
+                ([("root", "r", "w"), ("new", "a"), ("free", "v"), ("root", "r", ""), ("free", "w")], [(1, 2, 2), (4, 4, 4)]),
+                ([("root", "r", "w"), ("root", "r", ""), ("free", "v"), ("free", "w")], [(1, 2, 2), (2, 3, 3)]),
+                ([("root", "s", "w"), ("root", "r", ""), ("root", "s", ""), ("new", "a"), ("free", "v"), ("free", "w")], [(2, 4, 4), (3, 5, 5)]),
+                ([("root", "s", "w"), ("root", "r", ""), ("root", "s", ""), ("new", "a"), ("free", "w"), ("free", "v")], [(2, 5, 5), (3, 4, 4)])]:
+            self.assertEqual(spans(graph, script), harms)
+            common = harms[0][1] >= harms[1][0]
+            gaps = [harms[0][1], harms[1][1]]
+            self.assertIs(is_fewest(graph, script, gaps, harms), not common)
+            self.assertEqual(len(fewest(graph, script)[0]), 1 if common else 2)
+            if common:
+                self.assertIs(is_fewest(graph, script, [harms[1][0]], harms[:1]), True)
+                self.assertIs(is_fewest(graph, script, [harms[1][0]], harms[1:]), True)
+
     def test_fewest(self):
         self.assertEqual(fewest(LIST, []), ([], []))
         self.assertEqual(fewest(LIST, BOTH), ([2, 5], [(1, 2, 2), (4, 5, 5)]))
