@@ -4,7 +4,7 @@ from askless.grounds import Ground
 from askless.reads import is_log, place_read, step_of
 from askless.rows import GONE
 from askless.runs import is_run, played
-from askless.sights import least_log, merged, told_by, turns_of
+from askless.sights import least_missing, merged, told_by, turns_of
 
 
 class Logs:
@@ -46,10 +46,7 @@ class Logs:
 
     def missing(self, other):
         """The least log that these have and other ones have not, or None."""
-        def turn_there(there, read):
-            """The number of the turn behind a read in the other ones, or None."""
-            return other.turns[there].get(read)
-        return least_log(self.turns, 0, turn_there)
+        return least_missing(self.turns, other.turns)
 
     def within(self, other):
         """Whether other logs have all of these."""

@@ -92,29 +92,26 @@ def numbered_anew(things):
     return numbers
 
 
-def least_log(turns, begin, behind):
-    """The least log of some turns whose last read leads to None, or None if there is none.
-
-    A log leads from the state begin to others: behind gives the state behind a state and a read.
-    """
-    line = [(0, begin, 0, ())]
-    seen = {(0, begin): True}
+def least_missing(turns, others):
+    """The least log that some turns have and other ones have not, or None."""
+    line = [(0, 0, 0, ())]
+    seen = {(0, 0): True}
     at = 0
     while at < len(line):
-        turn, state = line[at][:2]
-        for read, to in turns[turn].items():
-            then = behind(state, read)
-            if then is None:
+        here, there = line[at][:2]
+        for read, to in turns[here].items():
+            if read not in others[there]:
                 return log_along(line, at) + [read]
-            if (to, then) not in seen:
-                seen[(to, then)] = True
-                line.append((to, then, at, read))
+            pair = (to, others[there][read])
+            if pair not in seen:
+                seen[pair] = True
+                line.append((*pair, at, read))
         at += 1
     return None
 
 
 def log_along(line, at):
-    """The log that leads to an item of a list of tuples (turn, state, index of the one ahead, read)."""
+    """The log that leads to an item of a list of tuples (turn, other turn, index of the one ahead, read)."""
     log = []
     while at > 0:
         log.append(line[at][3])

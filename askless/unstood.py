@@ -55,12 +55,12 @@ def gone_on(ground, views, log, nodes, kept):
     Left out are those that are no better than others that are kept, by then or by lesser logs.
     """
     fits = {}
-    keys = {}
+    known = {}
     lines = {}
     for names, stand, left in nodes:
         reads = told_reads(log, names)
         fits[names] = views.agreeing(reads)
-        keys[names] = (names, tuple(sorted(reads)))
+        known[names] = (names, tuple(sorted(reads)))
         lines.setdefault(0, []).append((names, stand, left))
     found = []
     many = 0
@@ -71,7 +71,7 @@ def gone_on(ground, views, log, nodes, kept):
         while len(line) > 0:
             names, stand, left = line.pop()
             core = ground.core_of[stand]
-            here = kept.setdefault((keys[names], core), [])
+            here = kept.setdefault((known[names], core), [])
             if is_covered(here, stand - ground.starts[core], left):
                 continue
             here.append((stand - ground.starts[core], left))
