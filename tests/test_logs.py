@@ -82,6 +82,32 @@ class LogsTest(LogsCase):
         self.assertIs([FIRST, NONE, FIRST] in turn, False)
         self.assertIs([NONE, NONE, FIRST, FIRST, NONE, NONE] in turn, True)
 
+    def test_logs_in_loops(self):
+        marks = [("mark", "x", 1), ("mark", "x", 2), ("mark", "x", 3)]
+        program = Program(["x"], ["r"], [[("new", "x"), ("root", "r", "x"), ("loop", marks)]])
+        logs = Logs(program)
+        told = [("mark", 0, k) for k in range(4)]
+        # Once the mark 0 is gone it never comes back; all others follow one another for ever.
+        self.assertEqual(logs.coming([FIRST, told[0]]), told + [FIRST])
+        for k in (1, 2, 3):
+            self.assertEqual(logs.coming([FIRST, told[k]]), told[1:] + [FIRST])
+        self.assertIs([FIRST, told[0]] + told[:0:-1] * 50 in logs, True)
+        self.assertIs([FIRST, told[3], told[0]] in logs, False)
+        self.assertEqual(len(logs), 3)
+        for log, many in [([FIRST, told[3], told[2]], 9), ([FIRST, told[3], told[1]], 8), ([FIRST, told[2], told[1], told[3]], 10)]:
+            run = run_of(program, log)
+            self.assertIs(is_run_of(program, log, run), True)
+            self.assertEqual(len(deeds(run)), many)
+
+    def test_counts(self):
+        """Of EARLY it is known how many logs there are: nobody has come, or x without its mark, or x with it."""
+        counts, logs = [1, 1, 1], Logs(EARLY)
+        for many in range(21):
+            self.assertEqual(logs.count(many), counts[0])
+            none, bare, marked = counts
+            counts = [none + bare, 2 * bare + marked, 2 * marked]
+        self.assertEqual([Logs(Program(["x"], ["r", "s"], [[]])).count(many) for many in (0, 1, 20)], [1, 2, 2 ** 20])
+
     def test_two_names_for_one_number(self):
         both = Program(["x", "y"], ["r"], [[("new", "x"), ("new", "y"), ("mark", "y", 2), ("either", [[("root", "r", "x")], [("root", "r", "y")]])]])
         logs = Logs(both)
@@ -231,7 +257,8 @@ class RunOfTest(LogsCase):
         self.assertIs(is_run_of(SWAP, [FIRST, ("root", "r", 1), ("mark", 0, 1)], run), True)
         self.assertEqual(len(deeds(run)), 6)
         self.assertEqual(run_of(IDLE, [NONE] * 999), [("enter",)] + [("root", 0, "r")] * 999)
-        for log in [[FIRST, NONE], [("root", "s", -1)], [FIRST, ("field", 0, "f", -1)], [FIRST, ("mark", 0, 3)]]:
+        for log in [[FIRST, NONE], [("root", "s", -1)], [FIRST, ("field", 0, "f", -1)], [FIRST, ("mark", 0, 3)], [("root", "s", 0)],
+                    [FIRST, ("field", 0, "f", 0)], [FIRST, ("field", 0, "f", 1)]]:
             self.assertIs(run_of(SWAP, log), None)
         new = run_of(SWAP, [])
         new.clear()

@@ -120,6 +120,15 @@ class BrokenTest(unittest.TestCase):
                          [FIRST, ("mark", 0, 1), ("root", "r", 1), ("mark", 1, 2)])
         self.assertIs(broken(SWAP, Promise([(0, ("mark", 0, 2), 1), (1, ("root", "r", 1), None)])), None)
         self.assertIs(broken(SWAP, Promise([])), None)
+        # Of several logs of one length the least one is told, whichever comes first in a run.
+        self.assertEqual(broken(SWAP, never([("root", None, 1), ("mark", None, None)])), [FIRST, ("mark", 0, 1)])
+        falling = EARLY.with_body(0, [("new", "x"), ("root", "r", "x"), ("mark", "x", 3), ("mark", "x", 2), ("mark", "x", 1)])
+        self.assertEqual(broken(falling, Promise([(0, ("mark", 0, 3), 1), (1, ("mark", 0, 3), 1), (1, ("mark", None, None), None)])),
+                         [FIRST, ("mark", 0, 3), ("mark", 0, 1)])
+        self.assertEqual(broken(falling, never([("mark", 0, 3), ("mark", 0, 2), ("mark", 0, 1)])), [FIRST, ("mark", 0, 1)])
+        turned = EARLY.with_body(0, falling.body(0)[:2] + [("loop", falling.body(0)[2:])])
+        self.assertEqual(broken(turned, Promise([(0, ("mark", 0, 2), 1), (1, ("mark", 0, 3), None)])), [FIRST, ("mark", 0, 2), ("mark", 0, 3)])
+        self.assertIs(broken(falling, Promise([(0, ("mark", 0, 2), 1), (1, ("mark", 0, 3), None)])), None)
         # The state goes round: the third read of the root finds x again.
         turns = Promise([(0, NONE, 1), (1, FIRST, 2), (2, NONE, 3), (3, NONE, None)])
         self.assertEqual(broken(TURN, turns), [NONE, FIRST, NONE, NONE])

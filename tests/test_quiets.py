@@ -99,6 +99,13 @@ class LeastQuietsTest(unittest.TestCase):
                                                   ("free", "x")], [("ask", "q"), ("await", "q")]])
         bads = quiet_paper(mixed, [at(4), at(5), (1, (0,)), (1, (1,))])[1]
         self.assertEqual([part for part, run in bads], [[at(4), (1, (0,)), (1, (1,))]])
+        # Sets that are wrong with no place more than they have can be of unlike sizes.
+        kept = [("new", "x"), ("new", "y"), ("root", "r", "x"), ("root", "s", "y"), ("root", "r", "")]
+        for more, places, sets in [([("free", "x"), ("root", "s", ""), ("new", "z"), ("free", "y")], [5, 7, 8], [[5], [7, 8]]),
+                                   ([("new", "z"), ("free", "x"), ("root", "s", ""), ("free", "y")], [5, 6, 8], [[5, 6], [8]])]:
+            program = Program(["x", "y", "z"], ["r", "s"], [kept + more])
+            bads = quiet_paper(program, [at(number) for number in places])[1]
+            self.assertEqual([part for part, run in bads], [[at(number) for number in part] for part in sets])
         found = least_quiets(late, [at(5), at(6), at(7)])
         found[0].clear()
         found.clear()

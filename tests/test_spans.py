@@ -93,6 +93,11 @@ class SpansTest(unittest.TestCase):
         self.assertEqual(fewest(LIST, []), ([], []))
         self.assertEqual(fewest(LIST, BOTH), ([2, 5], [(1, 2, 2), (4, 5, 5)]))
         self.assertEqual(fewest(CHAIN, APART), ([2], [(1, 2, 2)]))
+        # The last one of three spans has a gap in common with the one ahead, not with the first.
+        graph = Graph(["f", "g"], {"r": "u", "s": "w"}, {"u": (0, ("v", "x")), "v": (0, ("", "")), "w": (0, ("", "")), "x": (0, ("", ""))})
+        script = [("point", "u", "f", ""), ("free", "v"), ("point", "u", "g", ""), ("root", "s", ""), ("free", "x"), ("free", "w")]
+        self.assertEqual(spans(graph, script), [(1, 1, 1), (3, 4, 4), (4, 5, 5)])
+        self.assertEqual(fewest(graph, script), ([1, 4], [(1, 1, 1), (3, 4, 4)]))
         gaps, apart = fewest(LIST, BOTH)
         gaps.clear()
         apart.clear()
