@@ -1,7 +1,7 @@
 """Along runs: the rows behind their steps, and runs with as few walkers and reads as show a row or a wrong step."""
 from askless.errors import Broken
 from askless.machine import READS, Machine
-from askless.rows import ASKS, GONE, RANKS, ROOTS, THINGS, thing_of
+from askless.rows import ASKS, GONE, RANKS, ROOTS, THINGS, gone_fields, thing_of
 from askless.runs import go, played, wrong_of
 from askless.steps import begin_row, deed_of, outcome, ranks_behind
 from askless.tables import Table
@@ -25,11 +25,14 @@ def rows_along(program, run):
 
 
 def links_of_row(program, row):
-    """The list of the links of a row, from roots and fields to cells."""
-    links = [(("root", root), target) for root, target in zip(program.roots(), row[ROOTS])]
+    """The list of the links of a row, from roots and fields that walkers read to cells."""
+    roots = program.roots()
+    fields = program.fields()
+    chosen_roots, chosen_fields = program.readable
+    links = [(("root", roots[at]), row[ROOTS][at]) for at in chosen_roots]
     for cell, thing in zip(program.cells(), row[THINGS]):
-        targets = thing[1] if thing else ()
-        links += [(("field", cell, field), target) for field, target in zip(program.fields(), targets)]
+        if thing != ():
+            links += [(("field", cell, fields[at]), thing[1][at]) for at in chosen_fields]
     return [(place, target) for place, target in links if target not in ("", GONE)]
 
 
@@ -81,8 +84,7 @@ def wrong_run_by(program, table):
         return with_walkers(steps, [trails[name]]) + [step]
     moment = len(steps) + 1
     behind, trails = trails_behind(program, row, trails, step, moment)
-    targets = thing_of(program, behind, name)[1]
-    field = program.fields()[targets.index(GONE)]
+    field = program.fields()[gone_fields(program, thing_of(program, behind, name))[0]]
     return with_walkers(steps + [step], [trails[name] + ((moment, ("field", name, field)),)])
 
 

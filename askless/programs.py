@@ -105,6 +105,7 @@ class Program:
         self.lock_at = numbered([name for part in done for name in named(part, ("lock",))])
         crooked = any([part[0] in CROOKED for part in done])
         self.straight = len(self.scripts) == 1 and not crooked
+        self.readable = (tuple(range(len(self.root_at))), tuple(range(len(self.field_at))))
 
     def __eq__(self, other):
         return isinstance(other, Program) and self.whole == other.whole
@@ -150,3 +151,10 @@ class Program:
         writers = list(self.scripts)
         writers[writer] = body
         return Program(self.cells(), self.roots(), writers, fields=self.fields())
+
+    def narrowed(self, roots, fields):
+        """The same program, for walkers who read some of the roots and fields alone."""
+        program = Program(self.cells(), self.roots(), self.scripts, fields=self.fields())
+        root_numbers = tuple([self.root_at[root] for root in roots])
+        program.readable = (root_numbers, tuple([self.field_at[field] for field in fields]))
+        return program

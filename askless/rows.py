@@ -42,18 +42,19 @@ def replaced(parts, at, part):
 
 
 def spread(program, row):
-    """The ranks of a row when they have spread."""
+    """The ranks of a row when they have spread from the roots, along the fields, that walkers read."""
+    roots, fields = program.readable
     ranks = list(row[RANKS])
-    for target in row[ROOTS]:
+    for root in roots:
+        target = row[ROOTS][root]
         if target in program.cell_at:
             ranks[program.cell_at[target]] = len(row[ASKS])
-    rising = len(program.field_at) > 0
+    rising = len(fields) > 0
     while rising:
         rising = False
         for at, thing in enumerate(row[THINGS]):
-            targets = thing[1] if ranks[at] >= 0 else ()
-            for target in targets:
-                to = program.cell_at.get(target, at)
+            for field in fields if ranks[at] >= 0 else ():
+                to = program.cell_at.get(thing[1][field], at)
                 if ranks[to] < ranks[at]:
                     ranks[to] = ranks[at]
                     rising = True
@@ -61,11 +62,16 @@ def spread(program, row):
 
 
 def first_gone(program, row):
-    """The least cell with a rank that has a field that is gone, or the empty string."""
+    """The least cell with a rank that has a field that is gone, of those that walkers read, or the empty string."""
     for cell, thing, rank in zip(program.cell_at, row[THINGS], row[RANKS]):
-        if rank >= 0 and GONE in thing[1]:
+        if rank >= 0 and GONE in thing[1] and len(gone_fields(program, thing)) > 0:
             return cell
     return ""
+
+
+def gone_fields(program, thing):
+    """The list of the numbers of the fields that are gone, of those that walkers read."""
+    return [field for field in program.readable[1] if thing[1][field] == GONE]
 
 
 def is_row(program, thing):
@@ -111,10 +117,13 @@ def is_thing(program, thing, targets):
 
 
 def has_roots(program, row, there):
-    """Whether each root has a target, a cell that is there or none."""
+    """Whether each root has a target, a cell that is there or none; one that no walker reads can be gone."""
     if len(row[ROOTS]) != len(program.root_at):
         return False
-    return all([target == "" or target in there for target in row[ROOTS]])
+    known = ["", *there]
+    unread = [GONE, *known]
+    read = program.readable[0]
+    return all([target in (known if root in read else unread) for root, target in enumerate(row[ROOTS])])
 
 
 def has_locks(program, row):

@@ -24,11 +24,21 @@ EXAMPLES = '''
 >>> cut = Program(["x", "y", "z"], ["r"], [body + [("point", "x", "f", "z"), ("point", "y", "f", "")]], fields=["f"])
 >>> [missed(cut, ("r", "f")), stranger(cut, ("r", "f")), twice(cut, ("r", "f"))]
 [([('root', 'r', 0), ('field', 0, 'f', 1), ('field', 1, 'f', -1)], 'z'), None, None]
+
+>>> from askless.graphs import Graph
+>>> from askless.plans import plan
+>>> from askless.switches import copies, switches
+>>> one = Graph(["to"], {"r": "x"}, {"x": (0, ("y",)), "y": (1, ("z",)), "z": (2, ("",))})
+>>> other = Graph(["to"], {"r": "x"}, {"x": (0, ("y",)), "y": (3, ("",)), "z": (2, ("",))})
+>>> [switches(one, other), copies(one, other, ("field", "x", "to")), copies(one, other, ("root", "r"))]
+[[('root', 'r'), ('field', 'x', 'to')], ['y'], ['x', 'y']]
+>>> plan(one, other, ["copy"])[1]
+{'y': 'copy'}
 '''
 
 
 class ExamplesTest(unittest.TestCase):
     def test_examples(self):
         examples = doctest.DocTestParser().get_doctest(EXAMPLES, {}, "the document", None, 0)
-        self.assertEqual(len(examples.examples), 16)
+        self.assertEqual(len(examples.examples), 23)
         self.assertEqual(doctest.DocTestRunner().run(examples).failed, 0)

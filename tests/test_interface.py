@@ -31,6 +31,11 @@ FUNCTIONS = {
                "twice(program, chain, *, most=1000)", "longest(program, chain, *, most=1000)"],
     "quiets": ["least_quiets(program, places, *, most=1000)", "with_quiets(program, places)",
                "quiet_paper(program, places, *, most=1000)", "is_quiet_paper(program, places, goods, bads)"],
+    "entries": ["log_of(graph, script, walk)", "can_log(graph, thing)", "logs(graph)", "sides(graph, script, walk)"],
+    "changes": ["shows(one, other)", "is_way(one, other, thing)", "changes(one, other)", "shortest_way(one, other, place)"],
+    "switches": ["switches(one, other)", "copies(one, other, switch)", "two_ways(one, other)"],
+    "plans": ["plan(one, other, names)", "told_writes(graph, script)"],
+    "papers": ["switch_paper(one, other)", "is_switch_paper(one, other, thing)"],
 }
 CLASSES = {
     "programs": {"Program": ["__init__(self, cells, roots, writers, *, fields=())", "__eq__(self, other)", "__len__(self)",
@@ -82,5 +87,6 @@ class InterfaceTest(unittest.TestCase):
         for name, title, attribute in PROPERTIES:
             self.assertIsInstance(vars(getattr(module(name), title))[attribute], property)
 
-    def test_walk_is_a_generator(self):
-        self.assertTrue(inspect.isgeneratorfunction(module("runs").walk))
+    def test_generators(self):
+        for name, title in [("runs", "walk"), ("entries", "logs")]:
+            self.assertTrue(inspect.isgeneratorfunction(getattr(module(name), title)))

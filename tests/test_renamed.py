@@ -11,6 +11,11 @@ from askless.moments import fitting, never_stood, run_never_stood
 from askless.programs import Program
 from askless.quiets import least_quiets, quiet_paper
 from askless.runs import is_wrong_run, wrong_of
+from askless.changes import changes, shortest_way, shows
+from askless.entries import log_of, logs
+from askless.papers import is_switch_paper, switch_paper
+from askless.plans import plan, told_writes
+from askless.switches import copies, switches, two_ways
 from askless.along import lean, rows_along, run_to, wrong_run
 from askless.places import all_places
 from askless.scripts import held, is_walk, moments, outcome, wrong_walk
@@ -18,6 +23,7 @@ from askless.spans import fewest, idle_quiets, in_gaps, spans
 from askless.tables import Table
 from tests.drawn import hasty, linked, listed, mild, right_programs, some_programs, torn, visible
 from tests.scripted import many_cases, parted_script, drawn_graph
+from tests.shown import all_entries, pairs
 
 NAMES = {"x": "xa", "y": "yb", "z": "zc", "r": "ra", "s": "sb", "f": "fa", "g": "gb", "p": "pa", "q": "qb", "k": "ka", "l": "lb",
          "u": "ua", "v": "vb", "w": "wa", "a": "aa", "b": "ba", "h": "ha"}
@@ -93,6 +99,37 @@ class RenamedTest(unittest.TestCase):
             if number % 8 == 0:
                 self.assertEqual(exchanges(other), exchanges(program))
                 self.assertEqual(parting_log(other, renamed_program(programs[number - 1])), renamed(parting_log(program, programs[number - 1])))
+
+    def test_changes(self):
+        for one, other in pairs(120):
+            both = (renamed_graph(one), renamed_graph(other))
+            self.assertIs(shows(*both), shows(one, other))
+            for call in [changes, switches]:
+                self.assertEqual(call(*both), renamed(call(one, other)))
+            for place in switches(one, other):
+                self.assertEqual(copies(*both, renamed(place)), renamed(copies(one, other, place)))
+            for place in changes(one, other):
+                self.assertEqual(len(shortest_way(*both, renamed(place))), len(shortest_way(one, other, place)))
+            self.assertEqual(two_ways(*both) is None, two_ways(one, other) is None)
+            paper, again = switch_paper(one, other), switch_paper(*both)
+            self.assertEqual(paper[0], again[0])
+            if paper[0] != "idle":
+                self.assertIs(is_switch_paper(*both, renamed(paper) if paper[0] == "two" else ("one", *renamed(paper[1:]))), True)
+                self.assertEqual(again[1:3] if paper[0] == "one" else [], renamed(paper[1:3]) if paper[0] == "one" else [])
+            made = told(plan, one, other, ["a", "b", "p", "q"])
+            if isinstance(made, tuple):
+                self.assertEqual(plan(*both, renamed(["a", "b", "p", "q"]))[1], renamed(made[1]))
+                self.assertEqual(told_writes(both[0], renamed(made[0])), told_writes(one, made[0]))
+            else:
+                self.assertEqual(told(plan, *both, renamed(["a", "b", "p", "q"])), made)
+
+    def test_entries(self):
+        for graph, script in many_cases(30, ("mark", "point", "root", "copy", "quiet"), 4):
+            other = renamed_graph(graph)
+            for walk in all_entries(graph, script, 2)[:50]:
+                self.assertEqual(log_of(other, renamed(script), renamed(list(walk))), renamed(log_of(graph, script, list(walk))))
+            if len(graph.roots()) + len(graph.reached()) * (1 + len(graph.fields())) < 6:
+                self.assertEqual(list(logs(other)), renamed(list(logs(graph))))
 
     def test_scripts(self):
         cases = list(many_cases(120))
