@@ -78,3 +78,10 @@ def left_out(program, place):
     if not is_place(program, place) or statement_at(program, place) is None:
         raise NoPlace(place)
     return with_spliced(program, place, 1, [])
+
+
+def put_instead(program, place, statement):
+    """The program with another statement, or an equal one, in the place of the one at a place."""
+    if not is_place(program, place) or statement_at(program, place) is None:
+        raise NoPlace(place)
+    return with_spliced(program, place, 1, [statement])

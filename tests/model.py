@@ -68,9 +68,12 @@ class World:
         self.asked = []
         self.under_way = []
         self.clock = 0
+        # What walkers read, beside marks.
+        self.readable = (self.root_names, self.field_names)
 
     def copied(self):
         other = World(self.cell_names, self.root_names, self.field_names, self.bodies)
+        other.readable = self.readable
         other.at = list(self.at)
         other.things = {cell: [thing[0], dict(thing[1])] for cell, thing in self.things.items()}
         other.root, other.lock = dict(self.root), dict(self.lock)
@@ -227,8 +230,8 @@ def closed_walkers(world, walkers):
     found, gone = set(line), set()
     while line:
         begin, held = line.pop()
-        targets = [(root, target) for root, target in world.root.items()]
-        targets += [(cell, target) for cell in held for target in world.things[cell][1].values()]
+        targets = [(root, world.root[root]) for root in world.readable[0]]
+        targets += [(cell, world.things[cell][1][field]) for cell in held for field in world.readable[1]]
         for source, target in targets:
             if target == "?":
                 gone.add(source)
@@ -477,3 +480,29 @@ def random_step(rng, visited):
     cell = rng.choice(world.cell_names + ["zz"])
     return rng.choice([("writer", w), ("writer", w, rng.randint(0, 2)), ("begin", cell), ("end", cell), ("mark", w, 0),
                        ("root", w, "zz"), ("field", w, 0, rng.choice(world.field_names + ["zz"])), ("root", w, "r")])
+
+
+def rows_told(parts, readable=None, most=1000):
+    """(dict from all rows to the fewest steps to them, fewest steps the last of which is wrong or None), or None.
+
+    Walkers read readable alone, roots and fields, if it is told.
+    """
+    cells, roots, bodies, fields = parts
+    world = World(cells, roots, fields, bodies)
+    world.readable = readable or world.readable
+    walkers = closed_walkers(world, set())[0]
+    found, line, fewest = {row_of(world, walkers): 0}, [(world, walkers, 0)], None
+    while line:
+        further = []
+        for world, walkers, cost in line:
+            for step in world.steps():
+                word, name, other, others = tried(world, walkers, step)
+                if word:
+                    fewest = cost + 1 if fewest is None else fewest
+                elif row_of(other, others) not in found:
+                    found[row_of(other, others)] = cost + 1
+                    further.append((other, others, cost + 1))
+        line = further
+        if len(found) > most:
+            return None
+    return found, fewest

@@ -1,4 +1,4 @@
-"""The examples of the document, word for word, as far as they speak of what is here."""
+"""The examples of the document, word for word."""
 import doctest
 import unittest
 
@@ -34,11 +34,22 @@ EXAMPLES = '''
 [[('root', 'r'), ('field', 'x', 'to')], ['y'], ['x', 'y']]
 >>> plan(one, other, ["copy"])[1]
 {'y': 'copy'}
+
+>>> from askless.followed import greatest_choices
+>>> from askless.laters import greatest_laters, later_bar
+>>> from askless.programs import Program
+>>> again = [("new", "x"), ("root", "r", "x"), ("root", "r", ""), ("quiet",), ("free", "x")]
+>>> twice = Program(["x"], ["r"], [again + again])
+>>> [greatest_laters(twice), later_bar(twice, [(0, (3,))])[0]]
+[[[(0, (8,))]], 'fault']
+>>> hasty = Program(["x"], ["r"], [[("new", "x"), ("root", "r", "x"), ("root", "r", ""), ("free", "x")]])
+>>> greatest_choices(hasty)
+[((), ())]
 '''
 
 
 class ExamplesTest(unittest.TestCase):
     def test_examples(self):
         examples = doctest.DocTestParser().get_doctest(EXAMPLES, {}, "the document", None, 0)
-        self.assertEqual(len(examples.examples), 23)
+        self.assertEqual(len(examples.examples), 31)
         self.assertEqual(doctest.DocTestRunner().run(examples).failed, 0)

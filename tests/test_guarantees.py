@@ -4,6 +4,7 @@ import unittest
 
 from askless.along import rows_along, wrong_run
 from askless.errors import Fault, Freed, Gone, NoStep, TooMany
+from askless.laters import as_quiet
 from askless.logs import Logs
 from askless.machine import Machine
 from askless.places import all_places, left_out, put_behind, put_in, statement_at
@@ -184,8 +185,10 @@ class GuaranteesTest(unittest.TestCase):
             for place in all_places(program):
                 statement = statement_at(program, place)
                 if statement is not None and statement[0] == "later":
-                    other = put_in(left_out(program, place), place, ("free", statement[1]))
-                    other = put_in(other, place, ("quiet",))
+                    # What was put in ahead stays behind the later: so no body is empty meanwhile.
+                    other = put_in(put_in(program, place, ("free", statement[1])), place, ("quiet",))
+                    other = left_out(other, (place[0], place[1][:-1] + (place[1][-1] + 2,)))
+                    self.assertEqual(other, as_quiet(program, place))
                     self.assertIs(Logs(other).within(Logs(program)), True)
                     many += 1
         self.assertGreater(many, 10)

@@ -36,6 +36,14 @@ FUNCTIONS = {
     "switches": ["switches(one, other)", "copies(one, other, switch)", "two_ways(one, other)"],
     "plans": ["plan(one, other, names)", "told_writes(graph, script)"],
     "papers": ["switch_paper(one, other)", "is_switch_paper(one, other, thing)"],
+    "laters": ["slow_places(program)", "later_places(program)", "greatest_laters(program, *, most=1000)", "as_later(program, places)",
+               "as_quiet(program, place)", "later_bar(program, places, *, most=1000)", "most_unfreed(program, *, most=1000)"],
+    "followed": ["choices(program)", "rows_for(program, choice, *, most=1000)", "greatest_choices(program, *, most=1000)",
+                 "is_right_for(program, choice, *, most=1000)", "choice_bar(program, choice, *, most=1000)",
+                 "choices_paper(program, *, most=1000)", "is_choices_paper(program, goods, bads)"],
+    "stuck": ["stuck_run(program, *, most=1000)", "stuck_writers(program, run)", "chain(program, run)"],
+    "notation": ["show_statement(statement)", "show_program(program)", "show_run(run)", "read_statement(text)", "read_program(text)",
+                 "read_run(text)"],
 }
 CLASSES = {
     "programs": {"Program": ["__init__(self, cells, roots, writers, *, fields=())", "__eq__(self, other)", "__len__(self)",
@@ -57,6 +65,10 @@ CLASSES = {
                       "coming(self, log)", "first(self, many)", "count(self, many)", "missing(self, other)", "within(self, other)"]},
     "promises": {"Promise": ["__init__(self, rows)", "__eq__(self, other)", "rows(self)", "state_after(self, log)",
                              "broken_at(self, log)"]},
+    "book": {"Book": ["__init__(self, program)", "__eq__(self, other)", "__len__(self)", "__getitem__(self, place)",
+                      "__setitem__(self, place, statement)", "do(self, deed)", "back(self)", "again(self)", "program(self)",
+                      "until(self, many)", "log(self)", "copied(self)", "tried(self, deeds)", "block(self, act)"]},
+    "desk": {"Desk": ["__init__(self, program)", "execute(self, line)"]},
 }
 PROPERTIES = [("programs", "Program", "is_straight"), ("tables", "Table", "is_safe"), ("tables", "Table", "fewest"),
               ("walkers", "Walker", "number")]
@@ -88,5 +100,5 @@ class InterfaceTest(unittest.TestCase):
             self.assertIsInstance(vars(getattr(module(name), title))[attribute], property)
 
     def test_generators(self):
-        for name, title in [("runs", "walk"), ("entries", "logs")]:
+        for name, title in [("runs", "walk"), ("entries", "logs"), ("followed", "choices")]:
             self.assertTrue(inspect.isgeneratorfunction(getattr(module(name), title)))

@@ -6,7 +6,11 @@ from askless.alike import exchanges, parting_log
 from askless.chains import longest, missed, stranger, twice
 from askless.errors import AskError
 from askless.graphs import Graph
+from askless.followed import choice_bar, choices, choices_paper, greatest_choices, rows_for
+from askless.laters import as_later, as_quiet, greatest_laters, later_bar, later_places, most_unfreed, slow_places
 from askless.logs import Logs, is_run_of, run_of
+from askless.notation import read_program, show_program, show_run
+from askless.stuck import chain, stuck_run, stuck_writers
 from askless.moments import fitting, never_stood, run_never_stood
 from askless.programs import Program
 from askless.quiets import least_quiets, quiet_paper
@@ -48,6 +52,10 @@ def renamed_graph(graph):
     cells = {x: (graph[("mark", x)], tuple(graph[("field", x, f)] for f in graph.fields())) for x in graph.cells()}
     return Graph(renamed(graph.fields()), renamed({r: graph[("root", r)] for r in graph.roots()}), renamed(cells),
                  labels=renamed({x: graph.label(x) for x in graph.cells()}))
+
+
+def renamed_word(word):
+    return NAMES.get(word, word)
 
 
 def told(call, *args, **more):
@@ -99,6 +107,40 @@ class RenamedTest(unittest.TestCase):
             if number % 8 == 0:
                 self.assertEqual(exchanges(other), exchanges(program))
                 self.assertEqual(parting_log(other, renamed_program(programs[number - 1])), renamed(parting_log(program, programs[number - 1])))
+
+    def test_laters_and_choices(self):
+        for number, program in enumerate(some_programs(12, 60, (mild, listed, hasty, torn, visible))):
+            other = renamed_program(program)
+            self.assertEqual([slow_places(other), later_places(other)], [slow_places(program), later_places(program)])
+            self.assertEqual(as_later(other, slow_places(other)), renamed_program(as_later(program, slow_places(program))))
+            for place in later_places(program):
+                self.assertEqual(as_quiet(other, place), renamed_program(as_quiet(program, place)))
+            self.assertEqual(told(greatest_laters, other, most=500), told(greatest_laters, program, most=500))
+            one, two = told(later_bar, program, slow_places(program)), told(later_bar, other, slow_places(program))
+            self.assertEqual(one if one is None else one[0], two if two is None else two[0])
+            self.assertEqual(told(most_unfreed, other)[0], told(most_unfreed, program)[0])
+            self.assertEqual(list(choices(other)), renamed(list(choices(program))))
+            for choice in list(choices(program))[number % 3::3]:
+                self.assertEqual(rows_for(other, renamed(choice)), renamed(rows_for(program, choice)))
+                bars = [choice_bar(other, renamed(choice)), choice_bar(program, choice)]
+                self.assertEqual(bars[0] is None, bars[1] is None)
+            self.assertEqual(greatest_choices(other), renamed(greatest_choices(program)))
+            papers = [choices_paper(other), choices_paper(program)]
+            self.assertEqual(papers[0][0], renamed(papers[1][0]))
+            self.assertEqual([bad[0] for bad in papers[0][1]], renamed([bad[0] for bad in papers[1][1]]))
+            run = stuck_run(program)
+            self.assertEqual(run is None, stuck_run(other) is None)
+            if run is not None:
+                self.assertEqual([stuck_writers(other, renamed(run)), chain(other, renamed(run))], [stuck_writers(program, run), chain(program, run)])
+
+    def test_texts(self):
+        for program in some_programs(12, 60, (mild, listed)):
+            text = show_program(program)
+            words = " ".join(renamed_word(word) for word in text.replace("\n", " \n ").split(" "))
+            self.assertEqual(read_program(words.replace(" \n ", "\n")), renamed_program(program))
+            run = wrong_run(program)
+            if run is not None:
+                self.assertEqual(show_run(renamed(run)).split(), [renamed_word(word) for word in show_run(run).split()])
 
     def test_changes(self):
         for one, other in pairs(120):
