@@ -42,7 +42,7 @@ def shows(one, other):
         elif cells == (False, False):
             if this != that:
                 return False
-        elif pairs.get(this) != that or partners.get(that) != this:
+        elif pairs.get(this) != that:
             return False
     return True
 
@@ -56,11 +56,11 @@ def changes(one, other):
     return sorted([place for place in places if one[place] != other[place]])
 
 
-def is_trail(graph, places):
-    """Whether each place of a list but the first is a field or the mark of the cell to which the one ahead leads."""
-    if not all([place in graph for place in places]):
+def is_path(graph, thing):
+    """Whether a value is a list of one or more places, each but the first of the cell to which the one ahead leads."""
+    if not isinstance(thing, list) or len(thing) == 0 or not all([place in graph for place in thing]):
         return False
-    return all([place[0] != "root" and place[1] == graph[ahead] for ahead, place in zip(places, places[1:])])
+    return all([place[0] != "root" and place[1] == graph[ahead] for ahead, place in zip(thing, thing[1:])])
 
 
 def are_different(places):
@@ -71,9 +71,7 @@ def are_different(places):
 def is_way(one, other, thing):
     """Whether a value is a way: a list of different places from a root to a change."""
     changed = changes(one, other)
-    if not isinstance(thing, list) or len(thing) == 0 or not is_trail(one, thing):
-        return False
-    return are_different(thing) and thing[0][0] == "root" and thing[-1] in changed
+    return is_path(one, thing) and are_different(thing) and thing[0][0] == "root" and thing[-1] in changed
 
 
 def shortest_trail(graph, starts, goals, barred):

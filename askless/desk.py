@@ -1,11 +1,10 @@
 """Desks: books that are led by lines of text."""
 from askless.along import wrong_run
 from askless.book import Book
-from askless.errors import NoCommand, NoText, Wrong
+from askless.errors import NoCommand, NoText
 from askless.logs import Logs
 from askless.notation import read_address, read_number, read_statement, show_address, show_program, show_run
 from askless.notation import show_statement, with_feeds
-from askless.programs import Program
 from askless.tables import Table
 
 MOST_READS = 20
@@ -24,7 +23,7 @@ def read_place(text):
     """The place that a text tells."""
     writer, sign, address = text.partition("@")
     place = (read_number(writer), read_address(address))
-    if sign == "" or None in place:
+    if None in place:
         raise NoCommand()
     return place
 
@@ -69,8 +68,6 @@ class Desk:
     """A book that is led by lines of text, each of which has an answer."""
 
     def __init__(self, program):
-        if not isinstance(program, Program):
-            raise Wrong(0)
         self.book = Book(program)
 
     def execute(self, line):

@@ -1,6 +1,5 @@
 """Followed: for walkers who read some of the roots and fields alone, whether a program is right."""
 from askless.along import wrong_run_by
-from askless.kinds import is_list
 from askless.runs import is_wrong_run
 from askless.tables import Table, is_closed
 
@@ -94,7 +93,7 @@ def is_choice(program, thing):
 
 def are_some(names, thing):
     """Whether a value is an ascending tuple of different ones of some names."""
-    if not isinstance(thing, tuple) or not all([isinstance(part, str) and part in names for part in thing]):
+    if not isinstance(thing, tuple) or not all([part in names for part in thing]):
         return False
     return list(thing) == sorted(set(thing))
 
@@ -115,7 +114,7 @@ def reads_alone(choice, run):
 
 def is_wrong_for(program, choice, thing):
     """Whether a value is a wrong run whose walkers read a choice alone."""
-    return is_list(thing) and is_wrong_run(program, thing) and reads_alone(choice, thing)
+    return is_wrong_run(program, thing) and reads_alone(choice, thing)
 
 
 def is_choices_paper(program, goods, bads):

@@ -101,7 +101,7 @@ def lines_of(text):
 def read_body(lines, at, blanks):
     """The list of what stands from a line on with so many blanks ahead, and the index of the line behind it."""
     body = []
-    while at < len(lines) and lines[at][0] == blanks and lines[at][1] != "or":
+    while at < len(lines) and lines[at][0] == blanks:
         statement, at = read_lines(lines, at)
         body.append(statement)
     return (body, at)

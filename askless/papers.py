@@ -1,7 +1,6 @@
 """Papers: what shows that a change has a switch, or has none."""
-from askless.changes import are_different, changes, is_trail, is_way, shortest_trail
+from askless.changes import are_different, changes, is_path, is_way, shortest_trail
 from askless.entries import roots_of
-from askless.graphs import is_words
 from askless.switches import cells_changed, copies, links_of, reach, switches, two_trails, two_ways
 
 
@@ -44,15 +43,13 @@ def is_switch_paper(one, other, thing):
     """Whether a value shows that there are no changes, that there are two ways apart, or what the last switch does."""
     changed = changes(one, other)
     known = switches(one, other)
-    if not isinstance(thing, tuple) or len(thing) == 0 or not isinstance(thing[0], str):
+    if not isinstance(thing, tuple) or len(thing) == 0:
         return False
     if len(changed) == 0:
         return thing == ("idle",)
     if len(known) == 0:
         return thing[0] == "two" and len(thing) == 3 and are_apart(one, other, thing[1:])
-    if thing[0] != "one" or len(thing) != 5 or not is_words(thing[1]) or thing[1] != known[-1]:
-        return False
-    if not isinstance(thing[2], list) or thing[2] != cells_apart(one, known[-1]):
+    if thing[0] != "one" or len(thing) != 5 or thing[1] != known[-1] or thing[2] != cells_apart(one, known[-1]):
         return False
     return are_reasons(one, other, known[-1], thing[3]) and are_tails(one, changed, known[-1], thing[4])
 
@@ -73,13 +70,6 @@ def are_reasons(one, other, switch, thing):
         if not is_toward(other, switch, cell, toward) or not is_onward(other, switch, cell, ends, onward):
             return False
     return True
-
-
-def is_path(graph, thing):
-    """Whether a value is a list of one or more places, each but the first a field of the cell ahead of it."""
-    if not isinstance(thing, list) or len(thing) == 0 or not is_trail(graph, thing):
-        return False
-    return all([place[0] == "field" for place in thing[1:]])
 
 
 def is_toward(other, switch, cell, thing):
@@ -109,6 +99,6 @@ def are_tails(one, changed, switch, thing):
 
 def is_tail(one, changed, switch, thing):
     """Whether a value is a list of places from the cell to which the switch leads on to a change."""
-    if not isinstance(thing, list) or len(thing) == 0 or not is_trail(one, thing):
+    if not is_path(one, thing):
         return False
     return thing[0][0] != "root" and thing[0][1] == one[switch] and thing[-1] in changed

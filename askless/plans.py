@@ -33,7 +33,7 @@ def writes(now, other, taken):
     found = []
     for place in roots_of(other) + [place for cell in other.cells() for place in places_of(other, cell)]:
         here = named_anew(place, taken)
-        worth = other[place] if place[0] == "mark" else taken.get(other[place], other[place])
+        worth = taken.get(other[place], other[place])
         if now[here] != worth:
             found.append(write_at(here, worth))
     return found

@@ -2,7 +2,6 @@
 from askless.changes import changes, shortest_trail
 from askless.entries import roots_of
 from askless.errors import NoSwitch
-from askless.graphs import is_words
 
 # Where ways begin and end: no name is like these.
 BEGIN = "<"
@@ -104,7 +103,7 @@ def cells_changed(one, other, switch):
 def copies(one, other, switch):
     """The ascending list of the cells that are to be copied if the change is shown at a switch."""
     known = switches(one, other)
-    if not is_words(switch) or switch not in known:
+    if switch not in known:
         raise NoSwitch(switch)
     if switch[0] == "mark":
         return []

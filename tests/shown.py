@@ -52,7 +52,9 @@ def drawn_pair(seed):
     if fields and rng.random() < 0.7:
         for x, y in zip(names, names[1:]):
             cells[x][1][rng.randrange(len(fields))] = y
-    roots = {r: names[0] if rng.random() < 0.8 else rng.choice(names + [""]) for r in ["r", "s"][:rng.choice([1, 1, 2])]}
+    # Roots can have the names of cells and fields, too.
+    tops = rng.choice([["r", "s"], ["r", "s"], ["w", "x"], ["v", "f"]])[:rng.choice([1, 1, 2])]
+    roots = {r: names[0] if rng.random() < 0.8 else rng.choice(names + [""]) for r in tops}
     one = made(fields, roots, cells)
     return one, changed_graph(rng, one, rng.choice([0, 1, 1, 2, 2, 3]))
 

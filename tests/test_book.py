@@ -208,7 +208,9 @@ class BackTest(unittest.TestCase):
         other.do(DEEDS[2])
         self.assertEqual(book.again(), DEEDS[2])
         self.assertEqual(book, other)
-        # The same program, by other deeds or from another begin.
+        # Other begins, or the same program by other deeds.
+        self.assertNotEqual(Book(START), Book(START.with_body(1, [QUIET])))
+        self.assertEqual(Book(START), Book(Program(["x", "y"], ["r"], [BODY, []], fields=["f"])))
         self.assertNotEqual(self.led([DEEDS[0]]), Book(self.led([DEEDS[0]]).program()))
         self.assertNotEqual(self.led([("put", at(0), QUIET), ("take", at(0))]), Book(START))
         self.assertEqual(self.led([("put", at(0), ("loop", ()))]), self.led([("put", at(0), ("loop", []))]))

@@ -166,6 +166,11 @@ class WayTest(unittest.TestCase):
         for way in bad:
             self.assertIs(is_way(ONE, OTHER, way), False, way)
         self.assertIs(is_way(ONE, ONE, good[0]), False)
+        # A root that is called like the cell ahead is no place of it.
+        one = Graph([], {"r": "x", "x": ""}, {"x": (0, ())})
+        other = Graph([], {"r": "x", "x": "x"}, {"x": (1, ())})
+        self.assertEqual([is_way(one, other, way) for way in [[("root", "r"), ("root", "x")], [("root", "x")], [("root", "r"), ("mark", "x")]]],
+                         [False, True, True])
         self.assertIs(is_way(ONE, OTHER, PATH * 400000 + [end]), False)
         for thing in odd_values():
             for way in [thing, [thing], PATH + [thing], [thing] + PATH]:

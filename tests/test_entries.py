@@ -195,6 +195,8 @@ class SidesTest(unittest.TestCase):
                            ([ROOT, (1, ("mark", "x"))], []), ([ROOT, (2, ("mark", "x"))], ["last"])]:
             self.assertEqual(sides(graph, script, walk), told)
         self.assertEqual(sides(graph, [], [ROOT, (0, ("mark", "x"))]), ["first", "last"])
+        # Behind a fault there is no last moment.
+        self.assertEqual(sides(graph, script[:1] + [("new", "x")], [(1, ("root", "r"))]), ["first"])
         with self.assertRaises(NoRead) as caught:
             sides(graph, script, [ROOT, ROOT])
         self.assertEqual(caught.exception.at, 1)

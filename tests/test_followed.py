@@ -136,6 +136,13 @@ class PaperTest(unittest.TestCase):
     def test_greatest_choices(self):
         self.assertEqual(greatest_choices(HASTY), [NONE])
         self.assertEqual(greatest_choices(TWO), [((), ("f", "g")), (("r",), ("g",))])
+        # Ascending, whatever their sizes.
+        start = [("new", "x"), ("new", "y"), ("point", "y", "f", "x"), ("point", "y", "g", "x"), ("root", "r", "y"), ("point", "y", "f", "")]
+        wide = TWO.with_body(0, start + [("point", "y", "g", ""), ("free", "x")])
+        self.assertEqual(greatest_choices(wide), [(("r", "s"), ()), (("s",), ("f", "g"))])
+        self.assertEqual([good[0] for good in choices_paper(wide)[0]], greatest_choices(wide))
+        turned = TWO.with_body(0, [(*part[:1], {"r": "s", "s": "r"}[part[1]], *part[2:]) if part[0] == "root" else part for part in TWO.body(0)])
+        self.assertEqual([bad[0] for bad in choices_paper(turned)[1]], [(("r",), ()), (("s",), ("f",))])
         safe = HASTY.with_body(0, [("new", "x"), ("root", "r", "x")])
         self.assertEqual(greatest_choices(safe), [ALL])
         # Where some run comes to a fault, there is none.

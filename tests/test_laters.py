@@ -187,8 +187,11 @@ class BarTest(unittest.TestCase):
 
     def test_greatest_sets(self):
         self.assertEqual(greatest_laters(TWICE), [[at(8)]])
-        both = made([("new", "x"), ("new", "y")] + FREE + [("quiet",), ("free", "y")])
-        self.assertEqual(greatest_laters(both), [[at(2), at(4)]])
+        body = [("new", "x"), ("new", "y")] + FREE + [("quiet",), ("free", "y")]
+        self.assertEqual(greatest_laters(made(body)), [[at(2), at(4)]])
+        # One quiet has to be left for a third cell, whichever it is.
+        third = [("new", "z"), ("root", "r", "z"), ("root", "r", "")]
+        self.assertEqual(greatest_laters(made(third + body + [("free", "z")], cells=["x", "y", "z"])), [[at(5)], [at(7)]])
         many = 0
         for program in right_programs(80, 100, (mild, listed, visible)):
             slow = slow_places(program)

@@ -126,6 +126,15 @@ class PaperTest(unittest.TestCase):
         self.assertIs(is_switch_paper(one, other, replaced(paper, 3, [("y", again[:-1], [])])), False)
         self.assertEqual(other, other_top)
         # Onward never goes over the switch.
+        near = {"a": (0, ("b", "")), "b": (0, ("c", "d")), "c": (0, ("", "a")), "d": (0, ("", ""))}
+        ahead = Graph(["f", "g"], {"r": "a"}, near)
+        behind = Graph(["f", "g"], {"r": "a"}, dict(near, c=(1, ("", "a")), d=(1, ("", ""))))
+        paper = switch_paper(ahead, behind)
+        self.assertEqual((paper[1], [reason[0] for reason in paper[3]]), (("field", "a", "f"), ["b", "c", "d"]))
+        for onward, fits in [([("field", "b", "f")], True), ([("field", "b", "g")], True), ([("field", "b", "f"), ("field", "c", "g")], False),
+                             ([("field", "b", "f"), ("field", "c", "g"), ("field", "a", "f"), ("field", "b", "g")], False), ([], False)]:
+            thing = replaced(paper, 3, [("b", [("field", "a", "f")], onward)] + paper[3][1:])
+            self.assertIs(is_switch_paper(ahead, behind, thing), fits, onward)
         lead = Graph(["f", "g"], {"r": "a"}, {"a": (0, ("b", "")), "b": (0, ("c", "")), "c": (0, ("", ""))})
         moved = Graph(["f", "g"], {"r": "a"}, {"a": (0, ("d", "")), "b": (0, ("c", "a")), "c": (1, ("", "")), "d": (0, ("b", ""))})
         paper = switch_paper(lead, moved)

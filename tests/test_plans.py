@@ -101,7 +101,7 @@ class PlanTest(unittest.TestCase):
             script, taken = plan(one, other, NAMES)
             self.check_plan(one, other, script, taken, many, found)
             planned += len(many) > 0
-        self.assertGreater(planned, 40)
+        self.assertGreater(planned, 30)
 
     def check_plan(self, one, other, script, taken, many, found):
         self.assertEqual(list(taken.items()), list(zip(many, NAMES)))
@@ -133,7 +133,7 @@ class PlanTest(unittest.TestCase):
                 self.assertTrue(sides(one, script, list(walk)))
                 self.assertTrue(can_log(one, log) or can_log(other, log))
                 many += 1
-        self.assertGreater(many, 3000)
+        self.assertGreater(many, 2000)
 
     def test_arguments_stay_and_results_are_new(self):
         one, other, names = ONE.copied(), OTHER.copied(), ["a", "b"]
@@ -291,15 +291,15 @@ class OneSwitchTest(unittest.TestCase):
         cases = [(one, made(["f"], {"r": "x"}, {"x": [0, ["y"]], "y": [1, ["x"]]})),
                  (one, made(["f"], {"r": "x"}, {"x": [1, ["y"]], "y": [1, [""]]})),
                  (made([], {"r": "", "s": ""}, {"x": [0, []]}), made([], {"r": "x", "s": "x"}, {"x": [0, []]})),
-                 (made([], {"r": "x", "s": ""}, {"x": [0, []]}), made([], {"r": "x", "s": ""}, {"x": [1, []]}))] + pairs(160)
+                 (made([], {"r": "x", "s": ""}, {"x": [0, []]}), made([], {"r": "x", "s": ""}, {"x": [1, []]}))] + pairs(400)
         for one, other in cases:
             small = len(one) <= 2 and len(other) <= 3 and len(one.fields()) < 2
             if not changes(one, other) or not small or set(one.reached()) != set(one.cells()) or set(other.reached()) != set(other.cells()):
                 continue
             places = max(len(graph.roots()) + len(graph) * (1 + len(graph.fields())) for graph in (one, other))
-            if places > 6:
-                continue
             fresh, switch = len(set(other.cells()) - set(one.cells())), switches(one, other)[-1:]
+            if places + fresh > 6:
+                continue
             copied = copies(one, other, switch[0]) if switch else []
             if switch and copied:
                 names = sorted(set(one.cells()) | set(other.cells())) + ["n"]

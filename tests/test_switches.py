@@ -34,7 +34,14 @@ class SwitchTest(unittest.TestCase):
         self.assertIs(two_ways(ONE, ONE), None)
         one, other = made({"r": "", "s": ""}), made({"r": "x", "s": "x"}, x=(0, ("",)))
         self.assertEqual(sorted(two_ways(one, other)), [[("root", "r")], [("root", "s")]])
-        # The shortest way takes what both ways need: they part anew.
+        # The shortest way takes what the other way needs: there it goes another way round.
+        places = {"a": ("d", "c"), "b": ("d", ""), "c": ("e", ""), "d": ("", ""), "e": ("", "")}
+        turned = Graph(("f", "g"), {"r": "a", "s": "b"}, {x: (0, part) for x, part in places.items()})
+        marked = turned.copied()
+        marked[("mark", "d")] = marked[("mark", "e")] = 1
+        found = two_ways(turned, marked)
+        self.assertEqual(sorted(found), [[("root", "r"), ("field", "a", "g"), ("field", "c", "f"), ("mark", "e")],
+                                         [("root", "s"), ("field", "b", "f"), ("mark", "d")]])
         fields = ("f", "g")
         cells = {"a": ("c", "b"), "b": ("d", ""), "c": ("d", "e"), "d": ("e", ""), "e": ("", "")}
         one = Graph(fields, {"r": "a", "s": "c"}, {x: (0, part) for x, part in cells.items()})
