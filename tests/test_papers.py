@@ -141,6 +141,26 @@ class PaperTest(unittest.TestCase):
         self.assertEqual(paper[:3], ("one", ("field", "a", "f"), ["a"]))
         self.assertEqual(paper[3][0], ("b", [("field", "a", "f"), ("field", "d", "f")], []))
 
+    def test_tails(self):
+        """They begin with a place of the cell to which the switch leads, not with a root that is called like it."""
+        one = Graph(["f"], {"x": "a"}, {"a": (0, ("x",)), "x": (0, ("b",)), "b": (0, ("",))})
+        other = Graph(["f"], {"x": "a"}, {"a": (0, ("x",)), "x": (1, ("b",)), "b": (1, ("",))})
+        paper, switch = switch_paper(one, other), ("field", "a", "f")
+        near, far = [("mark", "x")], [("field", "x", "f"), ("mark", "b")]
+        self.assertEqual((paper[1], sorted(paper[4])), (switch, [far, near]))
+        for tails, fits in [((near, far), True), ((far, near), True), ((near, far[1:]), False), (([switch] + near, far), False),
+                            ((near, [("root", "x"), switch] + far), False), ((near, [switch] + far), False), ((near, far[:1]), False),
+                            ((near, []), False), ((near, near), False), ((near,), False), ((near, far, far), False), ((far, far[:1]), False)]:
+            self.assertIs(is_switch_paper(one, other, replaced(paper, 4, tails)), fits, tails)
+        # They may go over the switch.
+        ring = Graph(["f", "g"], {"r": "a"}, {"a": (0, ("x", "")), "x": (0, ("a", ""))})
+        turned = Graph(["f", "g"], {"r": "a"}, {"a": (0, ("x", "")), "x": (1, ("a", "x"))})
+        paper = switch_paper(ring, turned)
+        self.assertEqual(paper[1], switch)
+        over = [("field", "x", "f"), switch, ("mark", "x")]
+        for tails, fits in [((over, [("field", "x", "g")]), True), (([("field", "x", "g")], over), True), ((over, [("mark", "x")]), False)]:
+            self.assertIs(is_switch_paper(ring, turned, replaced(paper, 4, tails)), fits, tails)
+
     def test_no_papers(self):
         paper = switch_paper(ONE, OTHER)
         word, switch, apart, reasons, tails = paper
