@@ -153,6 +153,31 @@ class LanguageTest(unittest.TestCase):
                     else:
                         self.assertIsInstance(around, (ast.For, ast.comprehension), (path, node.lineno))
 
+    def test_generators(self):
+        """No other function or method has a generator's name, and each call of one is iterated on the spot."""
+        names = [node.name for path, node in nodes(ast.FunctionDef)]
+        yielding = {node.name for path, node in nodes(ast.FunctionDef) if any(isinstance(part, (ast.Yield, ast.YieldFrom)) for part in ast.walk(node))}
+        self.assertEqual({name for name in yielding if names.count(name) != 1}, set())
+        self.assertEqual(yielding & METHODS, set())
+        for path, tree in trees():
+            above = parents(tree)
+            for node in ast.walk(tree):
+                if isinstance(node, ast.Name) and node.id in yielding and isinstance(node.ctx, ast.Load):
+                    call = above[node]
+                    if isinstance(call, ast.Call) and call.func is node:
+                        around = above[call]
+                        fits = isinstance(around, ast.Call) and around.func.id in TAKES_THEM
+                        self.assertTrue(fits or isinstance(around, (ast.For, ast.comprehension)), (path, node.lineno))
+
+    def test_what_is_done_in_a_finally(self):
+        for path, node in nodes(ast.Try):
+            for part in node.finalbody:
+                self.assertIsInstance(part, ast.If)
+                self.assertTrue(isinstance(part.test.ops[0], (ast.Is, ast.IsNot)) and part.test.comparators[0].value is None)
+                for inner in part.body:
+                    self.assertIsInstance(inner, ast.Assign)
+                    self.assertEqual([kind for kind in ast.walk(inner) if isinstance(kind, (ast.Call, ast.Subscript, ast.UnaryOp))], [])
+
     def test_sets_stand_where_they_may(self):
         for path, tree in trees():
             above = parents(tree)
