@@ -15,6 +15,7 @@ from askless.moments import fitting, never_stood, run_never_stood
 from askless.programs import Program
 from askless.quiets import least_quiets, quiet_paper
 from askless.runs import is_wrong_run, wrong_of
+from askless.book import Book
 from askless.changes import changes, shortest_way, shows
 from askless.entries import log_of, logs
 from askless.papers import is_switch_paper, switch_paper
@@ -28,6 +29,7 @@ from askless.tables import Table
 from tests.drawn import hasty, linked, listed, mild, right_programs, some_programs, torn, visible
 from tests.scripted import many_cases, parted_script, drawn_graph
 from tests.shown import all_entries, pairs
+from tests.test_book import drawn_deed
 
 NAMES = {"x": "xa", "y": "yb", "z": "zc", "r": "ra", "s": "sb", "f": "fa", "g": "gb", "p": "pa", "q": "qb", "k": "ka", "l": "lb",
          "u": "ua", "v": "vb", "w": "wa", "a": "aa", "b": "ba", "h": "ha"}
@@ -56,6 +58,11 @@ def renamed_graph(graph):
 
 def renamed_word(word):
     return NAMES.get(word, word)
+
+
+def renamed_deed(deed):
+    """The words of a deed are no names."""
+    return deed[:2] + tuple(renamed(part) for part in deed[2:])
 
 
 def told(call, *args, **more):
@@ -141,6 +148,16 @@ class RenamedTest(unittest.TestCase):
             run = wrong_run(program)
             if run is not None:
                 self.assertEqual(show_run(renamed(run)).split(), [renamed_word(word) for word in show_run(run).split()])
+
+    def test_books(self):
+        for seed, program in enumerate(some_programs(12, 60, (mild, listed))):
+            rng, book, other = random.Random(seed), Book(program), Book(renamed_program(program))
+            for turn in range(25):
+                deed = rng.choice([drawn_deed(rng, book.program()), ("put", (0, (0,)), ("root", program.roots()[0], ""))])
+                one, two = told(book.do, deed), told(other.do, renamed_deed(deed))
+                self.assertEqual(one, two)
+            self.assertEqual(other.program(), renamed_program(book.program()))
+            self.assertEqual(other.log(), [renamed_deed(deed) for deed in book.log()])
 
     def test_changes(self):
         for one, other in pairs(120):
