@@ -39,25 +39,25 @@ def writes(now, other, taken):
     return found
 
 
-def plan(one, other, names):
-    """The tuple (script, taken): a script that shows the change whole, and the dict from copied cells to copies."""
+def last_switch(one, other):
+    """The last switch, or () if there are no changes."""
     known = switches(one, other)
-    if len(known) == 0 and len(changes(one, other)) > 0:
+    if len(known) > 0:
+        return known[-1]
+    if len(changes(one, other)) > 0:
         raise NoSwitch(())
-    switch = known[-1] if len(known) > 0 else ()
-    copied = copies(one, other, switch) if len(known) > 0 else []
-    if len(names) < len(copied):
-        raise TooFew(len(copied))
-    taken = dict(zip(copied, names))
-    made = makings(one, other, taken)
-    now = one.copied()
-    for statement in made:
-        change(now, statement)
+    return ()
+
+
+def parted(statements, switch, seen):
+    """The lists of the writes that can be done ahead of the one at the switch, of this one, and of those behind it.
+
+    No root is written but the switch: another one that changes, or leads to a copy, would be a way around it.
+    """
     early = []
     shown = []
     late = []
-    seen = one.reached()
-    for statement in writes(now, other, taken):
+    for statement in statements:
         if place_put(statement) == switch:
             shown.append(statement)
         elif statement[1] in seen:
@@ -65,6 +65,21 @@ def plan(one, other, names):
             late.append(statement)
         else:
             early.append(statement)
+    return (early, shown, late)
+
+
+def plan(one, other, names):
+    """The tuple (script, taken): a script that shows the change whole, and the dict from copied cells to copies."""
+    switch = last_switch(one, other)
+    copied = [] if switch == () else copies(one, other, switch)
+    if len(names) < len(copied):
+        raise TooFew(len(copied))
+    taken = dict(zip(copied, names))
+    made = makings(one, other, taken)
+    now = one.copied()
+    for statement in made:
+        change(now, statement)
+    early, shown, late = parted(writes(now, other, taken), switch, one.reached())
     freed = [("free", cell) for cell in one.cells() if cell in taken or cell not in other.label_of]
     quiets = [("quiet",)] if len(late) > 0 or len(freed) > 0 else []
     return (made + early + shown + quiets + late + freed, taken)
